@@ -1,0 +1,1 @@
+"""keptreadings: does every elder text keep its tree?"""

@@ -1,0 +1,33 @@
+"""The tables of sound forms and hard words by which texts are read."""
+
+from keptreadings.patterns import HOLE, followers, key_levels, middle_tokens
+
+
+def what_follows(place, items, levels):
+    """Whether a pattern ends at a place, the level of its hole or None, its tokens."""
+    hole = levels[("hole", place + (HOLE,))] if HOLE in items else None
+    tokens = [item for item in items if item not in (HOLE, "")]
+    return ("" in items, hole, sorted(set(tokens)))
+
+
+class Grammar:
+    """The levels by keys, what follows behind places, and the tokens by their kinds."""
+
+    def __init__(self, forms, hard):
+        patterns = [form[0] for form in forms]
+        self.levels = {}
+        for form in forms:
+            for key, level in key_levels(form):
+                self.levels[key] = level
+        behind = followers(patterns)
+        self.follows = {place: what_follows(place, behind[place], self.levels) for place in behind}
+        self.middles = {token: True for token in middle_tokens(patterns)}
+        self.hard_words = {word: True for word in hard}
+
+    def tails(self):
+        """The ascending list of the tail tokens."""
+        return sorted([key[1] for key in self.levels if key[0] == "tail"])
+
+    def fixed(self):
+        """The ascending list of all fixed tokens."""
+        return sorted(set([key[1] for key in self.levels if key[0] in ("head", "tail")] + list(self.middles)))

@@ -1,0 +1,46 @@
+"""How single tokens and counts are made up."""
+
+LETTERS = "abcdefghijklmnopqrstuvwxyz"
+FIGURES = "0123456789"
+SIGNS = "+-*/<>=.,;:!?&|@^~[]{}"
+QUOTE = "'"
+# The number that stands where any one will do.
+NUMBER = "0"
+MOST_SIGNS = 8
+GREATEST_LEVEL = 9
+
+
+def is_run(value, characters):
+    """Whether any object is a string of one to eight of these characters."""
+    if not isinstance(value, str) or not 1 <= len(value) <= MOST_SIGNS:
+        return False
+    return all([character in characters for character in value])
+
+
+def is_word(value):
+    return is_run(value, LETTERS)
+
+
+def is_sign(value):
+    return isinstance(value, str) and len(value) == 1 and value in SIGNS
+
+
+def is_number(value):
+    return is_run(value, FIGURES) and (value == "0" or value[0] != "0")
+
+
+def is_quoted(value):
+    return isinstance(value, str) and value[:1] == QUOTE and is_word(value[1:])
+
+
+def is_fixed(value):
+    """Whether any object can be a fixed token of a pattern."""
+    return is_word(value) or is_sign(value)
+
+
+def is_count(value):
+    return isinstance(value, int) and not isinstance(value, bool) and value >= 0
+
+
+def is_level(value):
+    return is_count(value) and value <= GREATEST_LEVEL
