@@ -28,6 +28,12 @@ def with_level(form, key, level):
     return (form[0], levels[0], tuple(levels[1:]))
 
 
+def with_levels(form, levels):
+    """The form with the levels that a dictionary has for its keys."""
+    own = [levels[key] for key in keys_of(form[0])]
+    return (form[0], own[0], tuple(own[1:]))
+
+
 def fits(forms, hard, change):
     """Whether a change fits forms, no pattern of which stands twice, and hard words."""
     patterns = [form[0] for form in forms]

@@ -69,13 +69,17 @@ def deed_at(grammar, value, frame, token):
     """What is done with a token where a value is had in a frame."""
     if value is not None and token in grammar.follows[value][2]:
         return ("on", value + (token,))
+    return deed_for_level(grammar, value_level(grammar, value), frame, token)
+
+
+def deed_for_level(grammar, level, frame, token):
+    """What is done with a token where a value of a level is had that does not go on by it."""
     if (frame == BOTTOM and token == "") or (frame == BRACKET and token == ")"):
         return ("take", ())
     if frame[0] == "form" and token in grammar.follows[frame[1]][2]:
         return ("take", frame[1] + (token,))
     if stays_at(grammar, frame, token):
-        low = grammar.levels[("left", token)] > value_level(grammar, value)
-        return ("fault",) if low else ("tail", ("_", token))
+        return ("fault",) if grammar.levels[("left", token)] > level else ("tail", ("_", token))
     if frame[0] == "form" and grammar.follows[frame[1]][0]:
         return ("end",)
     return ("fault",)

@@ -11,7 +11,7 @@ from keptreadings.spelling import NUMBER
 
 
 def shorter(one, other):
-    """The shorter one of two tuples, either of which may be None."""
+    """The shorter one of two rows of tokens, either of which may be None."""
     if one is None or (other is not None and len(other) < len(one)):
         return other
     return one
@@ -22,12 +22,13 @@ class Endings:
 
     In the table are, for each place and each token that may wait, the fewest tokens that make a form
     at this place a whole one while the token is right behind it, and is not taken by it. Behind a
-    place that ends with a hole a number stands already.
+    place that ends with a hole a number stands already. No form of a barred pattern is made.
     """
 
-    def __init__(self, grammar):
+    def __init__(self, grammar, barred):
         self.grammar = grammar
-        self.waiting = sorted(set(grammar.tails() + list(grammar.middles))) + [")", ""]
+        self.barred = barred
+        self.waiting = grammar.later_tokens()
         self.table = {}
         # What a place needs rests on what the longer ones need.
         for place in sorted(list(grammar.follows), key=lambda row: -len(row)):
@@ -40,7 +41,7 @@ class Endings:
         if hole is not None:
             return self.need_behind((NUMBER,), place + (HOLE,), token)
         best = None
-        if ends and token not in tokens and not self.is_kept_at(place, token):
+        if ends and place not in self.barred and token not in tokens and not self.is_kept_at(place, token):
             best = ()
         for own in tokens:
             best = shorter(best, self.need_behind((own,), place + (own,), token))
@@ -112,7 +113,7 @@ def past_form(endings, frame, chains):
 
 def shortest_ending(grammar, stack):
     """A shortest list of tokens that ends a stack, a number first."""
-    endings = Endings(grammar)
+    endings = Endings(grammar, [])
     chains = {token: (1, (NUMBER,), None) for token in endings.waiting}
     level = LEAF_LEVEL
     for frame in reversed(stack):

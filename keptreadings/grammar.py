@@ -28,6 +28,26 @@ class Grammar:
         """The ascending list of the tail tokens."""
         return sorted([key[1] for key in self.levels if key[0] == "tail"])
 
+    def heads(self):
+        """The ascending list of the first tokens of heads."""
+        return sorted([key[1] for key in self.levels if key[0] == "head"])
+
+    def later_tokens(self):
+        """What may come behind a value: the tail and middle tokens, ascending, ")" and the end."""
+        return sorted(set(self.tails() + list(self.middles))) + [")", ""]
+
+    def patterns(self):
+        """The ascending list of the patterns."""
+        return sorted([place for place in self.follows if self.follows[place][0]])
+
+    def first_places(self):
+        """The places behind the tokens by which forms begin, first and tail tokens."""
+        return [(token,) for token in self.heads()] + [(HOLE, token) for token in self.tails()]
+
+    def own_levels(self):
+        """The ascending own levels of the forms."""
+        return sorted(set([self.levels[key] for key in self.levels if key[0] in ("head", "tail")]))
+
     def fixed(self):
         """The ascending list of all fixed tokens."""
         return sorted(set([key[1] for key in self.levels if key[0] in ("head", "tail")] + list(self.middles)))
