@@ -3,12 +3,18 @@
 import inspect
 import unittest
 
-from keptreadings import coming, editions, errors, reading, stacks, tokens, trees
+from keptreadings import adding, alike, blame, coming, editions, errors, kept, marks, reading, rooms, shortest, stacks, tokens, trees
 from keptreadings.editions import Edition
 from tests import judges
+from tests.pairs import random_pairs
 from tests.samples import LET, NOT, PLUS, TIMES, objects, snapshot, spoil
 
 HERE, LESS = Edition([PLUS, TIMES, LET, NOT], ["let"]), Edition([PLUS, NOT], [])
+SAME = Edition([PLUS, (("_", "*", "_"), 3, (3, 4)), LET, NOT], ["let"])
+MODULES = (tokens, editions, reading, coming, trees, stacks, kept, shortest, alike, rooms, adding, blame, marks)
+BY = (("by", "_"), 1, (1,))
+PATTERNS = [form[0] for form in HERE.forms()]
+KEYS = list(editions.numbers(HERE))
 PLACES = [one[:many] for one, _, _ in HERE.forms() for many in range(1, len(one) + 1) if one[:many] != ("_",)]
 FITTING = [("put", (("+",), 1, ())), ("level", ("tail", "+"), 1), ("hard", "a")]
 FRAMES = [("bracket",)] + [("form", place) for place in PLACES if place[-1] == "_"]
@@ -20,6 +26,10 @@ def text():
 
 def tree():
     return (PLUS[0], [("name", "a"), (NOT[0], [("number", "7")])])
+
+
+def needy():
+    return (TIMES[0], [(PLUS[0], [("name", "a"), ("name", "let")]), ("number", "7")])
 
 
 def stack():
@@ -50,29 +60,82 @@ KINDS = {
     "path": (lambda: (1, 0), errors.InvalidPath, lambda value: is_like(value, [(), (0,), (1,), (1, 0)])),
     "frame": (lambda: ("form", PLUS[0]), errors.InvalidStack, lambda value: is_like(value, FRAMES + [("bottom",)])),
     "stack": (stack, errors.InvalidStack, lambda value: is_like(value, [[], [("bracket",)], stack()])),
+    "line of editions": (lambda: [LESS, HERE], errors.InvalidEditions, lambda value: judges.editions(value) and value != []),
+    "had": (lambda: PLUS[0], errors.UnknownForm, lambda value: is_like(value, [None] + PATTERNS)),
+    "string": (lambda: "*", errors.InvalidToken, lambda value: isinstance(value, str)),
+    "word or sign": (lambda: "not", errors.InvalidToken, lambda value: judges.matches(judges.FIXED, value)),
+    "same": (lambda: SAME, errors.InvalidEdition, lambda value: is_like(value, [SAME, HERE])),
+    "row": (lambda: ("left", PLUS[0], "+"), errors.InvalidRow, lambda value: is_like(value, rooms.used_rows(HERE))),
+    "key": (lambda: ("tail", "+"), errors.InvalidKey, lambda value: is_like(value, KEYS)),
+    "new form": (lambda: BY, errors.InvalidForm, lambda value: judges.form(value) and value[0] not in PATTERNS),
+    "new forms": (lambda: [BY, (("_", "!"), 1, (1,))], errors.InvalidForms,
+                  lambda value: judges.forms(value) and not [form for form in value if form[0] in PATTERNS]),
+    "new words": (lambda: ["by"], errors.InvalidWords, lambda value: is_like(value, [[], ["by"]])),
+    "reason": (lambda: ("hard", "by"), errors.InvalidReason, lambda value: is_like(value, [("hard", "by")])),
+    "hard word": (lambda: "let", errors.InvalidToken, lambda value: is_like(value, ["let"])),
+    "patterns": (lambda: [PLUS[0]], errors.InvalidPattern, lambda value: is_like(value, [[], [PLUS[0]]])),
+    # Of a list the first thing is told that is no change; so no list is wrong itself.
+    "any changes": (lambda: [("hard", "not"), ("level", ("tail", "+"), 9)], errors.InvalidChanges, lambda value: isinstance(value, list)),
+    "lot": (lambda: [0, 1], errors.InvalidLot, lambda value: is_like(value, [[], [0], [1], [0, 1]])),
+    "pattern": (lambda: PLUS[0], errors.UnknownForm, lambda value: is_like(value, PATTERNS)),
+    "needy tree": (needy, errors.InvalidTree, judges.tree),
+    "marks": (lambda: [(0,), (1,)], errors.InvalidMarks, lambda value: is_like(value, [[], [()], [(0,), (1,)]])),
+    "way": (lambda: ((0,), (0,)), errors.InvalidWay, lambda value: is_like(value, [((0,), (0,)), ((0, 1), (0, 1))])),
     "value": (lambda: None, None, None),
 }
 # Each function with the names of its parameters and the kinds of these.
 FUNCTIONS = [
     (tokens.is_token, "value:value"), (tokens.kind, "token:token"), (tokens.cut, "line:line"), (tokens.line_of, "text:text"),
-    (tokens.tight_line, "text:text"), (tokens.unmarked, "text:text"), (tokens.free_words, "editions:editions many:many"),
-    (editions.is_form, "value:value"), (editions.first_clash, "forms:forms hard:hard"), (editions.Edition, "forms:forms hard:hard"),
-    (editions.numbers, "edition:edition"), (editions.changed, "edition:edition change:change"),
-    (editions.changed_by, "edition:edition changes:changes"), (editions.told_changes, "elder:edition newer:newer"),
-    (editions.are_changes, "elder:edition newer:newer value:value"),
-    (reading.places, "edition:edition"), (reading.goes_on, "edition:edition place:place"), (reading.read, "edition:edition text:text"),
-    (reading.taken, "edition:edition text:text"), (reading.standing, "edition:edition text:text at:at"),
-    (coming.is_start, "edition:edition tokens:text"), (coming.first_dead, "edition:edition tokens:text"),
-    (coming.may_come, "edition:edition tokens:text"),
-    (trees.is_tree, "edition:edition value:value"), (trees.paths, "tree:tree"), (trees.part_at, "tree:tree path:path"),
-    (trees.put_at, "tree:tree path:path other:tree"), (trees.forms_in, "tree:tree"), (trees.words_in, "tree:tree"),
-    (trees.bare_text, "tree:tree"), (trees.yield_parts, "tree:tree"), (trees.first_parted, "one:tree other:tree"),
-    (stacks.frames, "edition:edition"), (stacks.next_frames, "edition:edition frame:frame"), (stacks.is_stack, "edition:edition value:value"),
-    (stacks.leading, "edition:edition stack:stack"), (stacks.leading_size, "edition:edition stack:stack"),
-    (stacks.is_leading, "edition:edition stack:stack value:value"), (stacks.ending, "edition:edition stack:stack"),
-    (stacks.ending_size, "edition:edition stack:stack"), (stacks.is_ending, "edition:edition stack:stack value:value"),
+    (tokens.tight_line, "text:text"), (tokens.unmarked, "text:text"), (tokens.free_words, "editions:editions, many:many"),
+    (editions.is_form, "value:value"), (editions.first_clash, "forms:forms, hard:hard"), (editions.Edition, "forms:forms, hard:hard"),
+    (editions.numbers, "edition:edition"), (editions.changed, "edition:edition, change:change"),
+    (editions.changed_by, "edition:edition, changes:changes"), (editions.told_changes, "elder:edition, newer:newer"),
+    (editions.are_changes, "elder:edition, newer:newer, value:value"),
+    (reading.places, "edition:edition"), (reading.goes_on, "edition:edition, place:place"), (reading.read, "edition:edition, text:text"),
+    (reading.taken, "edition:edition, text:text"), (reading.standing, "edition:edition, text:text, at:at"),
+    (coming.is_start, "edition:edition, tokens:text"), (coming.first_dead, "edition:edition, tokens:text"),
+    (coming.may_come, "edition:edition, tokens:text"),
+    (trees.is_tree, "edition:edition, value:value"), (trees.paths, "tree:tree"), (trees.part_at, "tree:tree, path:path"),
+    (trees.put_at, "tree:tree, path:path, other:tree"), (trees.forms_in, "tree:tree"), (trees.words_in, "tree:tree"),
+    (trees.bare_text, "tree:tree"), (trees.yield_parts, "tree:tree"), (trees.first_parted, "one:tree, other:tree"),
+    (stacks.frames, "edition:edition"), (stacks.next_frames, "edition:edition, frame:frame"), (stacks.is_stack, "edition:edition, value:value"),
+    (stacks.leading, "edition:edition, stack:stack"), (stacks.leading_size, "edition:edition, stack:stack"),
+    (stacks.is_leading, "edition:edition, stack:stack, value:value"), (stacks.ending, "edition:edition, stack:stack"),
+    (stacks.ending_size, "edition:edition, stack:stack"), (stacks.is_ending, "edition:edition, stack:stack, value:value"),
+    (kept.is_kept_text, "elder:edition, newer:newer, text:text"), (kept.kept, "elder:edition, newer:newer"),
+    (kept.shared_frames, "elder:edition, newer:newer"), (kept.deed, "edition:edition, value:had, frame:frame, token:string"),
+    (kept.first_deed, "edition:edition, frame:frame, token:word or sign, after:string"), (kept.kept_table, "elder:edition, newer:newer"),
+    (kept.is_kept_table, "elder:edition, newer:newer, value:value"), (kept.kept_along, "editions:line of editions"),
+    (shortest.parting_text, "elder:edition, newer:newer"), (shortest.parting_size, "elder:edition, newer:newer"),
+    (shortest.is_parting_text, "elder:edition, newer:newer, value:value"), (shortest.unlike_text, "one:edition, other:newer"),
+    (shortest.is_unlike_text, "one:edition, other:newer, value:value"), (shortest.parting_names, "elder:edition, newer:newer"),
+    (alike.reduced_table, "edition:edition"), (alike.are_alike, "one:edition, other:newer"), (alike.unlike_row, "one:edition, other:same"),
+    (alike.two_form_text, "one:edition, other:same"), (alike.is_two_form_text, "one:edition, other:same, value:value"),
+    (alike.normal, "edition:edition"), (alike.height, "edition:edition"), (alike.height_chain, "edition:edition"),
+    (alike.is_height_chain, "edition:edition, value:value"),
+    (rooms.used_rows, "edition:edition"), (rooms.used_text, "edition:edition, row:row"), (rooms.is_used_text, "edition:edition, row:row, value:value"),
+    (rooms.room, "edition:edition, key:key"), (rooms.rooms, "edition:edition"), (rooms.room_ends, "edition:edition, key:key"),
+    (rooms.are_room_ends, "edition:edition, key:key, value:value"), (rooms.is_looser, "elder:edition, newer:newer"),
+    (rooms.loosest, "edition:edition"), (rooms.least_keeping, "edition:edition"), (rooms.greatest_keeping, "edition:edition"),
+    (rooms.broken_rows, "elder:edition, newer:same"),
+    (adding.added, "edition:edition, forms:new forms, hard:new words"), (adding.reasons, "edition:edition, form:new form, hard:new words"),
+    (adding.shown, "edition:edition, form:new form, hard:new words, reason:reason"),
+    (adding.is_shown, "edition:edition, form:new form, hard:new words, reason:reason, value:value"),
+    (adding.stand_apart, "edition:edition, forms:new forms, hard:new words"), (adding.harmful, "edition:edition, forms:new forms, hard:new words"),
+    (adding.softened, "edition:edition, word:hard word"), (adding.taken_out, "edition:edition, patterns:patterns"),
+    (adding.lost_reasons, "edition:edition, patterns:patterns"),
+    (blame.lot_edition, "elder:edition, changes:any changes, lot:lot"), (blame.breaking_lots, "elder:edition, changes:any changes"),
+    (blame.kept_lots, "elder:edition, changes:any changes"), (blame.blame_texts, "elder:edition, changes:any changes"),
+    (blame.are_blame_texts, "elder:edition, changes:any changes, value:value"), (blame.needed_forms, "elder:edition, newer:newer"),
+    (blame.broken_without, "elder:edition, newer:newer, pattern:pattern"),
+    (blame.is_broken_without, "elder:edition, newer:newer, pattern:pattern, value:value"),
+    (marks.marked, "tree:tree, marks:marks"), (marks.reads_to, "edition:edition, tree:tree, marks:marks"), (marks.need_ways, "edition:edition, tree:needy tree"),
+    (marks.unmet, "edition:edition, tree:tree, marks:marks"), (marks.fewest_marks, "edition:edition, tree:needy tree"),
+    (marks.least_marks, "edition:edition, tree:needy tree"), (marks.are_least_marks, "edition:edition, tree:needy tree, value:value"),
+    (marks.apart, "edition:edition, tree:needy tree"), (marks.are_apart, "edition:edition, tree:needy tree, value:value"),
+    (marks.kinds, "edition:edition, tree:needy tree, way:way"),
 ]
-ROWS = [(function, [pair.split(":") for pair in told.split()]) for function, told in FUNCTIONS]
+ROWS = [(function, [pair.split(":") for pair in told.split(", ")]) for function, told in FUNCTIONS]
 
 
 def right_arguments(row):
@@ -89,10 +152,12 @@ class ArgumentsTest(unittest.TestCase):
     def test_names_and_files(self):
         for function, row in ROWS:
             self.assertEqual(list(inspect.signature(function).parameters), [name for name, _ in row])
-        for module in (tokens, editions, reading, coming, trees, stacks):
+        for module in MODULES:
             here = [function for function, _ in ROWS if function.__module__ == module.__name__]
+            self.assertNotEqual(here, [])
             for function in here:
                 self.assertIs(getattr(module, function.__name__), function)
+        self.assertEqual(len(ROWS), len([function for function, _ in ROWS if function.__module__ in [module.__name__ for module in MODULES]]))
         for name in ("__init__", "__eq__", "forms", "hard"):
             self.assertIn(name, vars(Edition))
 
@@ -167,6 +232,67 @@ class ArgumentsTest(unittest.TestCase):
             spoil(arguments)
             self.assertEqual(as_told(again), told, function.__name__)
             self.assertEqual(as_told(function(*right_arguments(row))), told, function.__name__)
+
+    def test_equal_calls_in_another_order_and_between_others(self):
+        pairs = random_pairs(110, 12, 4, 4)
+        calls = []
+        for elder, newer in pairs:
+            for function, row in ROWS:
+                taken = [kind for _, kind in row]
+                if taken in (["edition", "newer"], ["edition"]):
+                    calls.append((function, [elder, newer][:len(row)]))
+                if taken == ["edition", "newer", "value"]:
+                    calls.append((function, [elder, newer, ["a"]]))
+        first = [as_told(function(*arguments)) for function, arguments in calls]
+        again = [as_told(function(*[Edition(one.forms(), one.hard()) if isinstance(one, Edition) else one for one in arguments]))
+                 for function, arguments in reversed(calls)]
+        self.assertEqual(first, again[::-1])
+        self.assertGreater(len(calls), 250)
+
+    def test_lists_of_the_later_sections_are_read_as_they_are_then(self):
+        row = ["x", "*", "y"]
+        self.assertIs(kept.is_kept_text(HERE, SAME, row), True)
+        row.extend(["+", "z"])
+        self.assertIs(kept.is_kept_text(HERE, SAME, row), False)
+        self.assertIs(shortest.is_parting_text(HERE, SAME, row), True)
+        self.assertIs(alike.is_two_form_text(HERE, SAME, row), True)
+        row.append("z")
+        self.assertIs(shortest.is_unlike_text(HERE, SAME, row), False)
+        table = kept.kept_table(LESS, LESS)
+        self.assertIs(kept.is_kept_table(LESS, LESS, table), True)
+        table.append(table[0])
+        self.assertIs(kept.is_kept_table(LESS, LESS, table), False)
+        along = [LESS, LESS]
+        self.assertIs(kept.kept_along(along), True)
+        along.append(Edition([], []))
+        self.assertIs(kept.kept_along(along), False)
+        chain = alike.height_chain(HERE)
+        self.assertIs(alike.is_height_chain(HERE, chain), True)
+        chain.clear()
+        self.assertIs(alike.is_height_chain(HERE, chain), False)
+        forms, hard = [BY], []
+        self.assertEqual(adding.harmful(HERE, forms, hard), [])
+        hard.append("by")
+        self.assertEqual(adding.harmful(HERE, forms, hard), [0])
+        newer = adding.added(HERE, forms, hard)
+        forms.clear()
+        hard.clear()
+        self.assertEqual((newer.hard(), len(newer.forms())), (["by", "let"], 5))
+        self.assertEqual(adding.added(HERE, forms, hard), HERE)
+        changes, lot = [("hard", "not")], [0]
+        self.assertEqual(blame.breaking_lots(HERE, changes), [[0]])
+        changes.append(("soft", "not"))
+        self.assertEqual(blame.kept_lots(HERE, changes), [[0, 1]])
+        lot.append(1)
+        self.assertEqual(blame.lot_edition(HERE, changes, lot), HERE)
+        tree, quotes = needy(), [(0, 1)]
+        self.assertEqual(marks.unmet(HERE, tree, quotes), ((0,), (0,)))
+        quotes.insert(0, (0,))
+        self.assertIsNone(marks.unmet(HERE, tree, quotes))
+        tree[1][0] = ("name", "a")
+        self.assertEqual(marks.need_ways(HERE, tree), [])
+        with self.assertRaises(errors.InvalidMarks):
+            marks.marked(tree, quotes)
 
     def test_a_list_is_read_as_it_is_then(self):
         row = ["a"]

@@ -90,6 +90,127 @@ first, then, plus = ("form", ("or", "_")), ("form", ("if", "_", "then", "_")), (
 # [1, 3, 5, True]
 '''
 
+KEPT = r'''
+from keptreadings.editions import Edition
+from keptreadings.kept import deed, first_deed, is_kept_table, is_kept_text, kept, kept_along, kept_table, shared_frames
+plus, minus, no = (("_", "+", "_"), 5, (5, 6)), (("_", "-", "_"), 5, (5, 6)), (("not", "_"), 3, (3,))
+elder, newer = Edition([plus], []), Edition([plus, no], [])
+spots, ahead = [("bottom",), ("bracket",), ("form", ("_", "+", "_"))], ["+", ")", ""]
+rows = [("wanted", spot) for spot in spots] + [("had", None, spot, token) for spot in spots for token in ahead]
+rows = rows + [("had", ("_", "+", "_"), spot, token) for spot in spots[:2] for token in ahead]
+[kept(elder, newer), shared_frames(elder, newer) == spots[1:], is_kept_table(elder, newer, rows), is_kept_table(elder, newer, rows[1:]), kept_along([elder, newer, Edition([plus, no, minus], [])])]
+# [True, True, True, False, True]
+before, behind = Edition([minus], []), Edition([minus, (("-", "_"), 7, (7,)), (("w", "_"), 3, (3,))], [])
+[kept(before, behind), kept_table(before, behind), is_kept_text(before, behind, ["w", "-", "x"]), is_kept_text(before, behind, ["x", "-", "w"])]
+# [False, None, False, True]
+[deed(before, None, ("form", ("_", "-", "_")), "-"), deed(before, ("_", "-", "_"), ("bottom",), "-"), deed(before, None, ("bottom",), "")]
+# [('end',), ('tail', ('_', '-')), ('take', ())]
+[first_deed(before, ("bottom",), "w", "-"), first_deed(behind, ("bottom",), "w", "-"), first_deed(behind, ("form", ("_", "-", "_")), "w", "x")]
+# [('name',), ('head', ('w',)), ('fault',)]
+'''
+
+SHORTEST = r'''
+from keptreadings.editions import Edition
+from keptreadings.shortest import is_parting_text, is_unlike_text, parting_names, parting_size, parting_text
+plus, times, late = (("_", "+", "_"), 4, (4, 5)), (("_", "*", "_"), 6, (6, 7)), (("_", "*", "_"), 3, (3, 4))
+elder, newer = Edition([plus, times], []), Edition([plus, late], [])
+[parting_size(elder, newer), parting_text(elder, elder), is_parting_text(elder, newer, ["x", "*", "y", "+", "z"]), is_parting_text(elder, newer, ["(", "x", "*", "y", ")", "+", "z"])]
+# [5, None, True, False]
+minus, less, wide = (("_", "-", "_"), 4, (4, 5)), (("-", "_"), 8, (8,)), (("w", "_"), 8, (8,))
+plain, soft, hard = Edition([minus, less], []), Edition([minus, less, wide], []), Edition([minus, less, wide], ["w"])
+[parting_size(plain, soft), is_parting_text(plain, soft, ["w", "-", "x"]), parting_text(plain, hard), parting_names(plain, hard), parting_names(plain, soft)]
+# [3, True, ['w'], ['w'], []]
+[is_unlike_text(elder, newer, ["x", "+", "y", "*", "z"]), is_unlike_text(plain, soft, ["w", "x"]), is_unlike_text(plain, soft, ["w", "-", "x"])]
+# [True, True, False]
+'''
+
+ALIKE = r'''
+from keptreadings.alike import are_alike, height, height_chain, is_height_chain, is_two_form_text, normal, reduced_table, two_form_text, unlike_row
+from keptreadings.editions import Edition
+plus, times, late = (("_", "+", "_"), 4, (4, 5)), (("_", "*", "_"), 6, (6, 7)), (("_", "*", "_"), 3, (3, 4))
+elder, newer = Edition([plus, times], []), Edition([plus, late], [])
+reduced_table(elder)
+# [('left', ('_', '*', '_'), '*'), ('left', ('_', '*', '_'), '+'), ('left', ('_', '+', '_'), '+'), ('on', ('_', '+', '_'), ('tail', '*'))]
+low = normal(elder)
+[low.forms(), are_alike(elder, low), height(elder), unlike_row(elder, low), two_form_text(elder, low)]
+# [[(('_', '*', '_'), 1, (0, 2)), (('_', '+', '_'), 0, (0, 1))], True, 2, None, None]
+[are_alike(elder, newer), unlike_row(elder, newer), is_two_form_text(elder, newer, ["x", "+", "y", "*", "z"]), is_two_form_text(elder, newer, ["x", "+", "y"])]
+# [False, ('left', ('_', '*', '_'), '+'), True, False]
+chain = [("tail", "+"), ("hole", ("_", "+", "_")), ("tail", "*"), ("hole", ("_", "*", "_"))]
+[is_height_chain(elder, chain), is_height_chain(elder, chain[:3]), is_height_chain(elder, chain[::-1])]
+# [True, False, False]
+'''
+
+ROOMS = r'''
+from keptreadings.editions import Edition
+from keptreadings.rooms import are_room_ends, broken_rows, greatest_keeping, is_looser, is_used_text, least_keeping, loosest, room, room_ends, used_rows
+plus, times, hole = (("_", "+", "_"), 5, (5, 6)), (("_", "*", "_"), 7, (7, 8)), ("_", "+", "_")
+one, both, right = Edition([plus], []), Edition([plus, times], []), ("hole", hole)
+[used_rows(one), is_used_text(one, ("left", hole, "+"), ["x", "+", "y", "+", "z"]), broken_rows(one, Edition([(hole, 5, (6, 6))], []))]
+# [[('left', ('_', '+', '_'), '+'), ('off', ('_', '+', '_'), ('tail', '+'))], True, [('left', ('_', '+', '_'), '+')]]
+[room(both, right), room(both, ("tail", "+")), room(both, ("left", "*")), room(both, ("hole", ("_", "*", "_")))]
+# [(6, 7), (5, 5), (0, 7), (8, 9)]
+[[len(text) for text in room_ends(both, right)], are_room_ends(both, right, (["x", "+", "x", "+", "x"], ["y", "+", "x", "*", "x"]))]
+# [[5, 5], True]
+[least_keeping(one).forms(), greatest_keeping(one).forms(), is_looser(both, loosest(both)), is_looser(loosest(both), both)]
+# [[(('_', '+', '_'), 0, (0, 1))], [(('_', '+', '_'), 8, (8, 9))], True, False]
+'''
+
+ADDING = r'''
+from keptreadings.adding import added, harmful, is_shown, lost_reasons, reasons, softened, stand_apart
+from keptreadings.editions import Edition
+minus, neg, nay = (("_", "-", "_"), 5, (5, 6)), (("-", "_"), 6, (6,)), (("not", "_"), 4, (4,))
+tail, both, heads = Edition([minus], []), Edition([minus, neg], []), Edition([minus, nay], [])
+[reasons(tail, neg, []), reasons(tail, nay, []), reasons(both, nay, []), reasons(heads, neg, []), reasons(tail, nay, ["not"])]
+# [[], [], [('meant', 'not', '-')], [('begins', 'not', '-')], [('hard', 'not')]]
+[harmful(tail, [neg, nay], []), stand_apart(tail, [neg, nay], []), is_shown(both, nay, [], ("meant", "not", "-"), ["not", "-", "x"])]
+# [[], False, True]
+ahead, cast = Edition([nay], []), (("_", "as", "_"), 3, (3, 4))
+[reasons(ahead, cast, []), is_shown(ahead, cast, [], ("names", "not", "as"), ["not", "as"]), added(ahead, [cast], []) == Edition([cast, nay], [])]
+# [[('names', 'not', 'as')], True, True]
+stray = Edition([(("a", "_"), 5, (0,)), (("f", "_", "b", "_"), 5, (0, 0))], ["a"])
+[reasons(stray, (("a", "_", "b"), 5, (0,)), []), softened(stray, "a"), harmful(stray, [(("a", "_", "c"), 5, (0,))], [])]
+# [[('behind', ('a', '_'), 'b')], ['a', 'b'], [0]]
+lost_reasons(Edition([nay, (("w", "_"), 5, (5,)), (("_", "by", "_", "w"), 3, (3, 0))], []), [("w", "_")])
+# [('names', 'not', 'w')]
+'''
+
+BLAME = r'''
+from keptreadings.blame import are_blame_texts, breaking_lots, broken_without, kept_lots, lot_edition, needed_forms
+from keptreadings.editions import Edition
+less, minus, word = (("_", "-", "_"), 5, (5, 6)), (("-", "_"), 8, (8,)), (("w", "_"), 3, (3,))
+plain, puts = Edition([less], []), [("put", minus), ("put", word)]
+[breaking_lots(plain, puts), kept_lots(plain, puts), are_blame_texts(plain, puts, [["w", "-", "x"]])]
+# [[[0, 1]], [[0], [1]], True]
+both = lot_edition(plain, puts, [0, 1])
+[needed_forms(plain, both), broken_without(plain, both, ("_", "-", "_")), needed_forms(plain, lot_edition(plain, puts, [0]))]
+# [[('_', '-', '_')], None, None]
+plus, call = (("_", "+", "_"), 5, (5, 9)), (("f", "_"), 9, (6,))
+moves = [("level", ("tail", "+"), 6), ("level", ("hole", ("f", "_")), 7)]
+[breaking_lots(Edition([plus, call], []), moves), kept_lots(Edition([plus, call], []), moves), are_blame_texts(Edition([plus, call], []), moves, [["f", "x", "+", "x"]])]
+# [[[0]], [[0, 1]], True]
+needed_forms(Edition([plus, call], []), lot_edition(Edition([plus, call], []), moves, [0]))
+# [('_', '+', '_'), ('f', '_')]
+'''
+
+MARKS = r'''
+from keptreadings.editions import Edition
+from keptreadings.marks import are_apart, are_least_marks, fewest_marks, kinds, least_marks, marked, need_ways, reads_to, unmet
+plus, by, fn = ("_", "+", "_"), ("_", "*", "_"), ("fn", "_")
+here = Edition([(plus, 4, (4, 5)), (by, 6, (6, 7)), (fn, 9, (0,))], ["fn"])
+a, b, c, d = [("name", word) for word in "abcd"]
+one = (by, [(plus, [a, b]), c])
+[need_ways(here, one), reads_to(here, one, []), least_marks(here, one), marked(one, [(0,)])]
+# [[((0,), (0,))], False, [(0,)], ['(', 'a', '+', 'b', ')', '*', 'c']]
+two = (plus, [(by, [c, (plus, [a, (fn, [b])])]), d])
+[need_ways(here, two), fewest_marks(here, two), unmet(here, two, [(0,)]), are_least_marks(here, two, [(0, 1)]), kinds(here, two, ((0,), (0, 1, 1)))]
+# [[((0,), (0, 1, 1)), ((0, 1), (0, 1))], 1, ((0, 1), (0, 1)), True, ['caught']]
+less = Edition([(("-", "_"), 8, (8,)), (("_", "-", "_"), 4, (4, 5)), (("not", "_"), 8, (8,))], [])
+word = (("_", "-", "_"), [("name", "not"), a])
+[need_ways(less, word), kinds(less, word, ((0,), (0,))), marked(word, [(0,)]), are_apart(less, word, [((0,), (0,))])]
+# [[((0,), (0,))], ['word'], ["'not", '-', 'a'], True]
+'''
+
 
 def checked(case, block):
     """Run a block; hold each expression against the comment behind it. How many there are."""
@@ -129,3 +250,24 @@ class ExamplesTest(unittest.TestCase):
 
     def test_section_8(self):
         self.assertEqual(checked(self, STACKS), 3)
+
+    def test_section_9(self):
+        self.assertEqual(checked(self, KEPT), 4)
+
+    def test_section_10(self):
+        self.assertEqual(checked(self, SHORTEST), 3)
+
+    def test_section_11(self):
+        self.assertEqual(checked(self, ALIKE), 4)
+
+    def test_section_12(self):
+        self.assertEqual(checked(self, ROOMS), 4)
+
+    def test_section_13(self):
+        self.assertEqual(checked(self, ADDING), 5)
+
+    def test_section_14(self):
+        self.assertEqual(checked(self, BLAME), 4)
+
+    def test_section_15(self):
+        self.assertEqual(checked(self, MARKS), 3)
