@@ -7,8 +7,8 @@ from keptreadings.partings import shortest_parting
 from keptreadings.patterns import HOLE, first_tokens
 from keptreadings.reading import taken
 from keptreadings.reasoning import lost_names, reasons_of, starts_of_reason
-from keptreadings.runs import runs_alone
-from keptreadings.spelling import is_word
+from keptreadings.runs import runs_alone, runs_without
+from keptreadings.spelling import are_words
 from keptreadings.tokens import is_text
 
 
@@ -31,11 +31,11 @@ def require_new_form(edition, form):
 
 def require_new_words(edition, forms, hard):
     """Raise the error for what is no list of words each of which begins an added head and no other one."""
-    if not isinstance(hard, list) or not all([is_word(word) for word in hard]):
+    if not are_words(hard):
         raise InvalidWords(hard)
     added_ones = first_tokens([form[0] for form in forms])
     old_ones = first_tokens(edition.grammar.patterns())
-    if len(set(hard)) != len(hard) or not all([word in added_ones and word not in old_ones for word in hard]):
+    if not all([word in added_ones and word not in old_ones for word in hard]):
         raise InvalidWords(hard)
 
 
@@ -61,13 +61,13 @@ def added_alone(edition, form, hard):
 def reasons(edition, form, hard):
     """The ascending list of all reasons for which a form that is added alone breaks texts."""
     newer = added_alone(edition, form, hard)
-    return reasons_of(runs_alone(edition.grammar, []), newer.grammar, form[0], hard)
+    return reasons_of(runs_alone(edition.grammar), newer.grammar, form[0], hard)
 
 
 def shown(edition, form, hard, reason):
     """A text that a form breaks for a reason, at the token that the reason tells."""
     newer = added_alone(edition, form, hard)
-    runs = runs_alone(edition.grammar, [])
+    runs = runs_alone(edition.grammar)
     if reason not in reasons_of(runs, newer.grammar, form[0], hard):
         raise InvalidReason(reason)
     return runs.routes.cheapest(starts_of_reason(runs, reason))
@@ -157,4 +157,4 @@ def taken_out(edition, patterns):
 def lost_reasons(edition, patterns):
     """The ascending reasons for which texts without some forms are not kept when these are taken out."""
     newer = taken_out(edition, patterns)
-    return lost_names(runs_alone(edition.grammar, patterns), newer.grammar)
+    return lost_names(runs_without(edition.grammar, patterns), newer.grammar)

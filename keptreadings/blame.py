@@ -7,7 +7,7 @@ from keptreadings.errors import InvalidChange, InvalidChanges, InvalidLot, Unkno
 from keptreadings.kept import is_kept_text
 from keptreadings.partings import shortest_parting
 from keptreadings.reading import read
-from keptreadings.spelling import is_count
+from keptreadings.spelling import are_ascending_counts
 from keptreadings.tokens import is_text
 from keptreadings.trees import forms_in
 
@@ -23,9 +23,7 @@ def require_changes(changes):
 
 def is_lot(changes, value):
     """Whether any object is an ascending list of positions in a list of changes."""
-    if not isinstance(value, list) or not all([is_count(at) and at < len(changes) for at in value]):
-        return False
-    return all([at < later for at, later in zip(value, value[1:])])
+    return are_ascending_counts(value) and all([at < len(changes) for at in value])
 
 
 def edition_of_lot(elder, changes, lot):

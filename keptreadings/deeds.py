@@ -30,16 +30,16 @@ def value_level(grammar, value):
 
 def begins_value(grammar, token):
     """Whether a token begins a value, whatever the levels."""
-    if is_number(token) or is_quoted(token) or token == "(":
-        return True
     if ("head", token) in grammar.levels:
         return True
-    return is_word(token) and ("tail", token) not in grammar.levels and token not in grammar.middles
+    if ("tail", token) in grammar.levels or token in grammar.middles:
+        return False
+    return token == "(" or is_word(token) or is_number(token) or is_quoted(token)
 
 
 def is_soft(grammar, token):
     """Whether a token is a soft word."""
-    return is_word(token) and ("head", token) in grammar.levels and token not in grammar.hard_words
+    return ("head", token) in grammar.levels and token not in grammar.hard_words and is_word(token)
 
 
 def begins_form(grammar, token, after):

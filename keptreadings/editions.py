@@ -6,7 +6,7 @@ from keptreadings.errors import InvalidChange, InvalidChanges, InvalidEdition, I
 from keptreadings.errors import InvalidForms, InvalidWords, Unsound
 from keptreadings.grammar import Grammar
 from keptreadings.patterns import is_well_formed
-from keptreadings.spelling import is_word
+from keptreadings.spelling import are_words
 
 
 def is_form(value):
@@ -20,9 +20,7 @@ def require_forms(forms):
 
 
 def require_words(words):
-    if not isinstance(words, list) or not all([is_word(word) for word in words]):
-        raise InvalidWords(words)
-    if len(set(words)) != len(words):
+    if not are_words(words):
         raise InvalidWords(words)
 
 
@@ -63,6 +61,13 @@ def require_edition(edition):
 
 def require_editions(editions):
     if not isinstance(editions, list) or not all([isinstance(edition, Edition) for edition in editions]):
+        raise InvalidEditions(editions)
+
+
+def require_some_editions(editions):
+    """Raise the error for what is no list of editions, or an empty one."""
+    require_editions(editions)
+    if not editions:
         raise InvalidEditions(editions)
 
 

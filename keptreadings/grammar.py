@@ -2,6 +2,8 @@
 
 from keptreadings.patterns import HOLE, followers, key_levels, middle_tokens
 
+MOST_ANSWERS = 60
+
 
 def what_follows(place, items, levels):
     """Whether a pattern ends at a place, the level of its hole or None, its tokens."""
@@ -11,9 +13,15 @@ def what_follows(place, items, levels):
 
 
 class Grammar:
-    """The levels by keys, what follows behind places, and the tokens by their kinds."""
+    """The levels by keys, what follows behind places, and the tokens by their kinds.
+
+    A grammar never changes: so what costs much and was asked once may be kept with it, by questions that
+    tell all that the answer rests on.
+    """
 
     def __init__(self, forms, hard):
+        self.told = (tuple(forms), tuple(hard))
+        self.answers = {}
         patterns = [form[0] for form in forms]
         self.levels = {}
         for form in forms:
@@ -23,6 +31,12 @@ class Grammar:
         self.follows = {place: what_follows(place, behind[place], self.levels) for place in behind}
         self.middles = {token: True for token in middle_tokens(patterns)}
         self.hard_words = {word: True for word in hard}
+
+    def keep(self, question, answer):
+        """Keep an answer, and not more than so many."""
+        if len(self.answers) >= MOST_ANSWERS:
+            self.answers = {}
+        self.answers[question] = answer
 
     def tails(self):
         """The ascending list of the tail tokens."""

@@ -1,8 +1,8 @@
 """Whether all texts of an elder edition are kept by a newer one, and tables that tell it."""
 
 from keptreadings.deeds import BOTTOM, BRACKET, deed_at, first_deed_at
-from keptreadings.editions import Edition, require_edition
-from keptreadings.errors import InvalidEditions, InvalidStack, InvalidToken, UnknownForm
+from keptreadings.editions import require_edition, require_some_editions
+from keptreadings.errors import InvalidStack, InvalidToken, UnknownForm
 from keptreadings.partings import shortest_parting
 from keptreadings.reading import read
 from keptreadings.runs import form_frames_of_both
@@ -87,8 +87,5 @@ def is_kept_table(elder, newer, value):
 
 def kept_along(editions):
     """Whether every text that the first one of some editions reads is read by each to the same tree."""
-    if not isinstance(editions, list) or not editions:
-        raise InvalidEditions(editions)
-    if not all([isinstance(edition, Edition) for edition in editions]):
-        raise InvalidEditions(editions)
+    require_some_editions(editions)
     return all([kept(editions[0], edition) for edition in editions[1:]])

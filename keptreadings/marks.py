@@ -2,11 +2,10 @@
 
 from keptreadings.editions import require_edition
 from keptreadings.errors import InvalidMarks, InvalidWay
-from keptreadings.needs import is_on, needs_of, ways_apart, ways_of
-from keptreadings.patterns import HOLE
+from keptreadings.needs import are_apart_ways, is_on, needs_of, ways_apart, ways_of
+from keptreadings.pairs import text_with
 from keptreadings.reading import read
-from keptreadings.spelling import QUOTE
-from keptreadings.trees import is_leaf, is_path, require_tree, require_tree_of
+from keptreadings.trees import all_parts, is_path, require_tree, require_tree_of
 
 
 def are_marks(tree, value):
@@ -26,34 +25,23 @@ def require_tree_in(edition, tree):
     require_tree_of(edition, tree)
 
 
-def marked_text(tree, path, marks):
-    """The text of the part of a tree at a path with those of some marks that are in it."""
-    if tree[0] == "name" and path in marks:
-        return [QUOTE + tree[1]]
-    if is_leaf(tree):
-        text = [tree[1]]
-    else:
-        text = []
-        below = 0
-        for item in tree[0]:
-            if item == HOLE:
-                text.extend(marked_text(tree[1][below], path + (below,), marks))
-                below += 1
-            else:
-                text.append(item)
-    return ["("] + text + [")"] if path in marks else text
+def marked_text(tree, marks):
+    """The text of a tree with some marks."""
+    names = {path: True for path, part in all_parts(tree) if part[0] == "name"}
+    pairs = {path: 1 for path in marks if path not in names}
+    return text_with(tree, (), pairs, {path: True for path in marks if path in names})
 
 
 def marked(tree, marks):
     """The text of a tree with some marks."""
     require_tree(tree)
     require_marks(tree, marks)
-    return marked_text(tree, (), {path: True for path in marks})
+    return marked_text(tree, marks)
 
 
 def is_read_so(edition, tree, marks):
     """Whether an edition reads the text of a tree with some marks to the tree."""
-    return read(edition, marked(tree, marks)) == ("read", tree)
+    return read(edition, marked_text(tree, marks)) == ("read", tree)
 
 
 def reads_to(edition, tree, marks):
@@ -114,8 +102,7 @@ def are_apart(edition, tree, value):
         return False
     if not all([way < later for way, later in zip(value, value[1:])]):
         return False
-    # Of two ways that meet, the first path of the later one is on the one ahead of it.
-    return not any([is_on(way, value[at][0]) for at in range(len(value)) for way in value[:at]])
+    return are_apart_ways(value)
 
 
 def kinds(edition, tree, way):

@@ -2,7 +2,7 @@
 
 from keptreadings.deeds import begins_form, begins_value, is_soft, value_level
 from keptreadings.patterns import HOLE, is_tail, keys_of
-from keptreadings.reduced import catches
+from keptreadings.reduced import takes
 from keptreadings.trees import is_leaf
 
 
@@ -71,9 +71,7 @@ def hole_needs(grammar, layout, path):
 
 def caught_needs(grammar, layout, path):
     """The need of a form that would catch the token behind it, or go on by it."""
-    pattern, token = layout.parts[path][0], layout.token_behind(path)
-    is_tail_token = ("tail", token) in grammar.levels
-    if token in grammar.follows[pattern][2] or (is_tail_token and catches(grammar, pattern, token)):
+    if takes(grammar, layout.parts[path][0], layout.token_behind(path)):
         return [((layout.slot(path), path), "caught")]
     return []
 
@@ -121,6 +119,39 @@ def is_on(way, path):
     """Whether a path is one of those on a way."""
     upper, lower = way
     return len(upper) <= len(path) and lower[:len(path)] == path
+
+
+def paths_on(way):
+    """The paths on a way, the upper ones first."""
+    upper, lower = way
+    return [lower[:size] for size in range(len(upper), len(lower) + 1)]
+
+
+def is_way_within(way, other):
+    """Whether all paths on a way are on another one."""
+    return is_on(other, way[0]) and is_on(other, way[1])
+
+
+def are_apart_ways(ways):
+    """Whether no two of some ways have a path in common."""
+    # Of two ways that meet, the one that begins further down begins on the other one.
+    for at, way in enumerate(ways):
+        if any([is_on(way, upper) or is_on((upper, lower), way[0]) for upper, lower in ways[:at]]):
+            return False
+    return True
+
+
+def fewest_on(ways, allowed):
+    """Fewest of the allowed paths so that one is on each of some ways, all of which have allowed ones.
+
+    All ways that share one with the way whose first one is furthest down have this first one, too.
+    """
+    firsts = [([path for path in paths_on(way) if path in allowed][0], way) for way in ways]
+    chosen = []
+    for first, way in sorted(firsts, key=lambda row: -len(row[0])):
+        if not any([is_on(way, path) for path in chosen]):
+            chosen.append(first)
+    return chosen
 
 
 def ways_apart(ways):

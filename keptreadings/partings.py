@@ -92,6 +92,14 @@ def starts_by_heads(runs):
 def shortest_parting(elder, newer, barred):
     """A shortest text that an elder grammar reads, to a tree without barred patterns, and a newer one
     not to the same tree; None if there is none."""
+    question = ("parting", newer.told, tuple(barred))
+    if question not in elder.answers:
+        elder.keep(question, sought_parting(elder, newer, barred))
+    text = elder.answers[question]
+    return None if text is None else list(text)
+
+
+def sought_parting(elder, newer, barred):
     runs = Runs(elder, newer, barred)
     add_alike(runs)
     runs.routes.measure()

@@ -49,3 +49,14 @@ def standing(edition, text, at):
     if len(take_all(reader, text, at)) < at:
         return None
     return (list(reader.frames), reader.told_mode())
+
+
+def standings(edition, text):
+    """The standings behind no token, behind the first one and so on, as far as there is no fault."""
+    reader = Reader(edition.grammar)
+    found = [(list(reader.frames), reader.told_mode())]
+    for at in range(len(text)):
+        if reader.take(text[at], text[at + 1] if at + 1 < len(text) else "") is None:
+            return found
+        found.append((list(reader.frames), reader.told_mode()))
+    return found

@@ -1,11 +1,19 @@
 """What the levels of an edition mean: its reduced table, and the comparisons in which this is told."""
 
 from keptreadings.patterns import HOLE, own_key
+from keptreadings.spelling import GREATEST_LEVEL
 
 
 def catches(grammar, pattern, token):
     """Whether a pattern ends with a hole whose level is at most the own level of a tail token."""
     return pattern[-1] == HOLE and grammar.levels[("tail", token)] >= grammar.levels[("hole", pattern)]
+
+
+def takes(grammar, pattern, token):
+    """Whether a form of a pattern would take a token that stands right behind it."""
+    if token in grammar.follows[pattern][2]:
+        return True
+    return ("tail", token) in grammar.levels and catches(grammar, pattern, token)
 
 
 def own_keys(grammar):
@@ -51,7 +59,7 @@ def comparisons(grammar):
 def least_levels(keys, rules):
     """The lowest levels, from 0 on, that comply with comparisons; with each key the rule that asks for it.
 
-    There have to be such levels.
+    If no levels up to the greatest one do, some of these are above it.
     """
     levels = {key: 0 for key in keys}
     causes = {}
@@ -64,4 +72,6 @@ def least_levels(keys, rules):
                 levels[upper] = levels[lower] + step
                 causes[upper] = rule
                 is_settled = False
+                if levels[upper] > GREATEST_LEVEL:
+                    return (levels, causes)
     return (levels, causes)

@@ -14,27 +14,38 @@ from keptreadings.tokens import is_text
 from keptreadings.usage import is_so, key_comparison, rows_of_runs, rows_used_by, start_of_row
 
 
+def known_rows(grammar):
+    """The ascending list of the rows that some text uses which is read, not to be changed."""
+    if "used rows" not in grammar.answers:
+        grammar.keep("used rows", rows_of_runs(runs_alone(grammar)))
+    return grammar.answers["used rows"]
+
+
 def used_rows(edition):
     """The ascending list of the rows that some text uses which an edition reads."""
     require_edition(edition)
-    return rows_of_runs(runs_alone(edition.grammar, []))
+    return list(known_rows(edition.grammar))
+
+
+def require_row(edition, row):
+    require_edition(edition)
+    if row not in known_rows(edition.grammar):
+        raise InvalidRow(row)
 
 
 def used_text(edition, row):
     """A shortest text that an edition reads and that uses a row."""
-    require_edition(edition)
-    runs = runs_alone(edition.grammar, [])
-    if row not in rows_of_runs(runs):
-        raise InvalidRow(row)
-    return runs.routes.cheapest([start_of_row(runs.elder, row)])
+    require_row(edition, row)
+    return runs_alone(edition.grammar).routes.cheapest([start_of_row(edition.grammar, row)])
 
 
 def is_used_text(edition, row, value):
     """Whether any object is a shortest text that an edition reads and that uses a row."""
-    size = len(used_text(edition, row))
-    if not is_text(value) or len(value) != size or read(edition, value)[0] == "fault":
+    # Most objects are refused without a look for the shortest text.
+    require_row(edition, row)
+    if not is_text(value) or read(edition, value)[0] == "fault":
         return False
-    return row in rows_used_by(edition.grammar, value)
+    return row in rows_used_by(edition.grammar, value) and len(value) == len(used_text(edition, row))
 
 
 def require_key(edition, key):
@@ -43,27 +54,22 @@ def require_key(edition, key):
         raise InvalidKey(key)
 
 
-def room_by(rows, levels, key):
-    """The least and the greatest level at a key with which all is so that rows say."""
-    fitting = []
-    for level in range(GREATEST_LEVEL + 1):
-        moved = {other: level if other == key else levels[other] for other in levels}
-        if all([is_so(row, moved) for row in rows]):
-            fitting.append(level)
-    return (fitting[0], fitting[-1])
-
-
 def room(edition, key):
     """The least and the greatest level at a key with which all texts are kept."""
     require_key(edition, key)
-    return room_by(used_rows(edition), edition.grammar.levels, key)
+    return rooms(edition)[key]
 
 
 def rooms(edition):
     """The rooms of all keys, ascending."""
     levels = numbers(edition)
-    rows = used_rows(edition)
-    return {key: room_by(rows, levels, key) for key in levels}
+    least = {key: 0 for key in levels}
+    greatest = {key: GREATEST_LEVEL for key in levels}
+    # What a row says of two levels bounds each of them by the other one, as it is.
+    for lower, upper, step in [key_comparison(row) for row in known_rows(edition.grammar)]:
+        least[upper] = max(least[upper], levels[lower] + step)
+        greatest[lower] = min(greatest[lower], levels[upper] - step)
+    return {key: (least[key], greatest[key]) for key in levels}
 
 
 def levels_beyond(edition, key):
@@ -88,12 +94,11 @@ def room_ends(edition, key):
 
 def is_room_end(edition, key, level, value):
     """Whether any object is a shortest text that is broken with a level at a key, or None for no level."""
-    shortest = text_broken_at(edition, key, level)
-    if shortest is None:
+    if level is None:
         return value is None
-    if not is_text(value) or len(value) != len(shortest):
+    if not is_text(value) or is_kept_text(edition, changed(edition, ("level", key, level)), value):
         return False
-    return not is_kept_text(edition, changed(edition, ("level", key, level)), value)
+    return len(value) == len(text_broken_at(edition, key, level))
 
 
 def are_room_ends(edition, key, value):

@@ -30,6 +30,8 @@ class Routes:
                     self.steps[node] = step
                     self.reach(node, cost, waiting)
             cost += 1
+        # Only the way from each node to the goal is asked for from here on.
+        self.into = {}
 
     def reach(self, node, cost, waiting):
         """Let the nodes wait that have a step to a node of some cost, each at its own cost."""
@@ -43,14 +45,19 @@ class Routes:
         """Whether the goal is reached from a node."""
         return node in self.costs
 
-    def text(self, node, middle):
-        """The tokens of the cheapest route from a node, laid around some that are there already."""
+    def around(self, node):
+        """The tokens that the cheapest route from a node lays ahead, and those that it lays behind."""
         leads, rest = [], []
         while node != self.goal:
             _, node, ahead, behind = self.steps[node]
             leads.append(ahead)
             rest.extend(behind)
-        return [token for lead in reversed(leads) for token in lead] + middle + rest
+        return ([token for lead in reversed(leads) for token in lead], rest)
+
+    def text(self, node, middle):
+        """The tokens of the cheapest route from a node, laid around some that are there already."""
+        ahead, behind = self.around(node)
+        return ahead + middle + behind
 
     def cheapest(self, starts):
         """The text of the cheapest one of some tuples (node, middle), None if none reaches the goal."""

@@ -110,8 +110,15 @@ class Runs:
                 self.routes.add(("below", frame, token), ("had", lower, level, token), tokens_to(frame), ())
 
 
-def runs_alone(grammar, barred):
-    """The measured runs of a grammar on all of its own stacks."""
+def runs_without(grammar, barred):
+    """The measured runs of a grammar on all of its own stacks, with none of some barred patterns."""
     runs = Runs(grammar, grammar, barred)
     runs.routes.measure()
     return runs
+
+
+def runs_alone(grammar):
+    """The measured runs of a grammar on all of its own stacks."""
+    if "runs" not in grammar.answers:
+        grammar.keep("runs", runs_without(grammar, []))
+    return grammar.answers["runs"]

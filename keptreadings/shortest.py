@@ -22,10 +22,12 @@ def parting_size(elder, newer):
 
 def is_parting_text(elder, newer, value):
     """Whether any object is a shortest text that parts the elder from the newer."""
-    size = parting_size(elder, newer)
-    if not is_text(value) or len(value) != size:
+    # Most objects are refused without a look for the shortest text.
+    require_edition(elder)
+    require_edition(newer)
+    if not is_text(value) or is_kept_text(elder, newer, value):
         return False
-    return not is_kept_text(elder, newer, value)
+    return len(value) == parting_size(elder, newer)
 
 
 def unlike_text(one, other):
@@ -35,10 +37,11 @@ def unlike_text(one, other):
 
 def is_unlike_text(one, other, value):
     """Whether any object is a shortest text that parts one of two editions from the other."""
-    shortest = unlike_text(one, other)
-    if shortest is None or not is_text(value) or len(value) != len(shortest):
+    require_edition(one)
+    require_edition(other)
+    if not is_text(value) or (is_kept_text(one, other, value) and is_kept_text(other, one, value)):
         return False
-    return not is_kept_text(one, other, value) or not is_kept_text(other, one, value)
+    return len(value) == len(unlike_text(one, other))
 
 
 def parting_names(elder, newer):

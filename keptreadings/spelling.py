@@ -21,6 +21,11 @@ def is_word(value):
     return is_run(value, LETTERS)
 
 
+def are_words(value):
+    """Whether any object is a list of unlike words."""
+    return isinstance(value, list) and all([is_word(word) for word in value]) and len(set(value)) == len(value)
+
+
 def is_sign(value):
     return isinstance(value, str) and len(value) == 1 and value in SIGNS
 
@@ -40,6 +45,13 @@ def is_fixed(value):
 
 def is_count(value):
     return isinstance(value, int) and not isinstance(value, bool) and value >= 0
+
+
+def are_ascending_counts(value):
+    """Whether any object is an ascending list of counts."""
+    if not isinstance(value, list) or not all([is_count(item) for item in value]):
+        return False
+    return all([item < later for item, later in zip(value, value[1:])])
 
 
 def is_level(value):

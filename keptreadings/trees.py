@@ -67,12 +67,17 @@ def first_unknown(edition, tree):
     return None
 
 
-def require_tree_of(edition, tree):
-    """Raise the error for what is no tree, or no tree of an edition."""
-    require_tree(tree)
+def require_forms_of(edition, tree):
+    """Raise the error for a tree that is none of an edition."""
     unknown = first_unknown(edition, tree)
     if unknown is not None:
         raise UnknownForm(unknown)
+
+
+def require_tree_of(edition, tree):
+    """Raise the error for what is no tree, or no tree of an edition."""
+    require_tree(tree)
+    require_forms_of(edition, tree)
 
 
 def is_tree(edition, value):

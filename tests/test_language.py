@@ -81,7 +81,7 @@ class LanguageTest(unittest.TestCase):
     def test_statements_and_expressions(self):
         barred = (
             ast.Global, ast.Nonlocal, ast.AsyncFunctionDef, ast.Await, ast.Yield, ast.YieldFrom, ast.GeneratorExp, ast.SetComp,
-            ast.Try, ast.With, ast.Match, ast.Div, ast.Pow, ast.NamedExpr, ast.Starred, ast.AnnAssign, ast.Delete, ast.Import,
+            ast.Match, ast.Div, ast.Pow, ast.NamedExpr, ast.Starred, ast.AnnAssign, ast.Delete, ast.Import,
         )
         for name, tree in trees().items():
             for node in ast.walk(tree):
@@ -92,6 +92,28 @@ class LanguageTest(unittest.TestCase):
                     for sign, other in zip(node.ops, node.comparators):
                         if isinstance(sign, (ast.Is, ast.IsNot)):
                             self.assertIn(ast.unparse(other), ("None", "True", "False"), name)
+
+    def test_blocks_and_handlers(self):
+        # A block is a call of trial; a handler names one error of the package, and is the only one for it.
+        known = defined(trees()["errors.py"])
+        for name, tree in trees().items():
+            for node in ast.walk(tree):
+                if isinstance(node, (ast.With, ast.Try)):
+                    self.assertIn(name, ("workshop.py", "scripts.py"))
+                if isinstance(node, ast.With):
+                    self.assertEqual([(ast.unparse(item.context_expr)[-8:], item.optional_vars) for item in node.items], [(".trial()", None)])
+                if isinstance(node, ast.Try):
+                    self.assertEqual((node.orelse, node.finalbody), ([], []))
+                    names = [ast.unparse(handler.type) for handler in node.handlers if handler.name is None]
+                    self.assertEqual(len(set(names)), len(node.handlers))
+                    self.assertLessEqual(set(names), set(known))
+
+    def test_the_end_of_a_block(self):
+        rows = [part for part in ast.walk(trees()["workshop.py"]) if isinstance(part, ast.FunctionDef) and part.name == "__exit__"]
+        self.assertEqual(len(rows), 1)
+        self.assertEqual([argument.arg for argument in rows[0].args.args], ["self", "kind", "value", "trace"])
+        for statement in rows[0].body:
+            self.assertRegex(ast.unparse(statement), r"\A(shop = self\.shop|shop\.\w+ = self\.\w+)\Z")
 
     def test_module_level(self):
         for name, tree in trees().items():
@@ -112,7 +134,7 @@ class LanguageTest(unittest.TestCase):
                 if isinstance(node, ast.arg):
                     self.assertNotIn(node.arg, classes_and_imports + WORDS + sorted(BUILTINS), name)
                 if isinstance(node, ast.Call) and isinstance(node.func, ast.Name):
-                    self.assertIn(node.func.id, own + sorted(BUILTINS), (name, node.lineno))
+                    self.assertIn(node.func.id, own + sorted(BUILTINS) + ["action"], (name, node.lineno))
                 if isinstance(node, (ast.Attribute, ast.FunctionDef)):
                     word = node.attr if isinstance(node, ast.Attribute) else node.name
                     self.assertNotIn(word, WORDS, name)
