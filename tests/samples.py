@@ -4,6 +4,7 @@ import random
 
 from keptreadings.editions import Edition, first_clash
 from keptreadings.errors import Fault, InvalidToken, NothingToUndo, TongueError
+from keptreadings.workshop import Workshop
 
 HOLE = "_"
 PLUS, TIMES = (("_", "+", "_"), 4, (4, 5)), (("_", "*", "_"), 6, (6, 7))
@@ -72,6 +73,7 @@ def objects():
         {}, {"a": 1}, {1: "a"}, {(): []}, {None: True}, [{}], ({},), ({}, []), [({},)],
         Edition([], []), Edition([PLUS], []), [Edition([], [])], (Edition([], []),), ["a", Edition([], [])],
         Fault(3), InvalidToken(), NothingToUndo(), TongueError(), [Fault("a")], (Fault("a"), []),
+        Workshop(Edition([], [])), [Workshop(Edition([PLUS], []))],
         nested(60),
     ]
 
@@ -92,6 +94,9 @@ def snapshot(value):
         return ("dict", [(snapshot(key), snapshot(value[key])) for key in value])
     if isinstance(value, Edition):
         return ("Edition", snapshot(value.forms()), snapshot(value.hard()))
+    if isinstance(value, Workshop):
+        dues = [(spot, value.text(spot), value.due(spot)) for spot in value.spots()]
+        return ("Workshop", snapshot(value.editions()), snapshot(dues), snapshot(value.log()))
     if isinstance(value, TongueError):
         return (value.__class__.__name__, snapshot(getattr(value, "value", None)))
     return (value.__class__.__name__, value)

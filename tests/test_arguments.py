@@ -3,7 +3,8 @@
 import inspect
 import unittest
 
-from keptreadings import adding, alike, blame, coming, editions, errors, kept, marks, reading, rooms, shortest, stacks, tokens, trees
+from keptreadings import adding, agreeing, alike, blame, coming, editions, errors, exchange, kept, leading, marks, papers, reading, rooms
+from keptreadings import scripts, shortest, stacks, tokens, trees, ways, workshop
 from keptreadings.editions import Edition
 from tests import judges
 from tests.pairs import random_pairs
@@ -11,7 +12,8 @@ from tests.samples import LET, NOT, PLUS, TIMES, objects, snapshot, spoil
 
 HERE, LESS = Edition([PLUS, TIMES, LET, NOT], ["let"]), Edition([PLUS, NOT], [])
 SAME = Edition([PLUS, (("_", "*", "_"), 3, (3, 4)), LET, NOT], ["let"])
-MODULES = (tokens, editions, reading, coming, trees, stacks, kept, shortest, alike, rooms, adding, blame, marks)
+MODULES = (tokens, editions, reading, coming, trees, stacks, kept, shortest, alike, rooms, adding, blame, marks, leading, ways, exchange,
+           workshop, scripts, papers, agreeing)
 BY = (("by", "_"), 1, (1,))
 PATTERNS = [form[0] for form in HERE.forms()]
 KEYS = list(editions.numbers(HERE))
@@ -34,6 +36,27 @@ def needy():
 
 def stack():
     return [("bracket",), ("form", ("let", "_")), ("form", PLUS[0])]
+
+
+def shop():
+    """A workshop with a text at the spot 1, and with commands taken back."""
+    made = workshop.Workshop(HERE)
+    made.enter(["a"])
+    made.enter(["a", "+", "b"])
+    made.close(0)
+    made.change([("level", ("tail", "*"), 3)])
+    made.edit(1, (0, 1, ["c", "*", "d"]))
+    made.undo()
+    return made
+
+
+def log():
+    return [("enter", ["a", "*", "b"]), ("edit", 1, (0, 1, ["b"])), ("change", [("level", ("tail", "+"), 2)]), ("lead", 1), ("close", 2)]
+
+
+def script():
+    return [("enter", ["a"]), ("try", [("close", 0), ("parted",)]), ("edit", 0, (0, 1, ["b", "+", "a"])), ("change", [("out", NOT[0])]),
+            ("reading", 0), ("undo",)]
 
 
 def is_like(value, others):
@@ -81,6 +104,28 @@ KINDS = {
     "needy tree": (needy, errors.InvalidTree, judges.tree),
     "marks": (lambda: [(0,), (1,)], errors.InvalidMarks, lambda value: is_like(value, [[], [()], [(0,), (1,)]])),
     "way": (lambda: ((0,), (0,)), errors.InvalidWay, lambda value: is_like(value, [((0,), (0,)), ((0, 1), (0, 1))])),
+    "newer here": (lambda: SAME, errors.InvalidEdition, judges.edition),
+    "editions here": (lambda: [HERE, SAME], errors.InvalidEditions, lambda value: judges.editions(value) and value != []),
+    # Texts that are not read raise another error.
+    "read text": (text, errors.InvalidText, judges.text),
+    "other read text": (lambda: ["a", "+", "not"], errors.InvalidText, judges.text),
+    "any way": (lambda: ((0,), (0, 1)), errors.InvalidWay,
+                lambda value: is_like(value, [(upper, lower) for lower in trees.paths(needy()) for upper in trees.paths(needy()) if lower[:len(upper)] == upper])),
+    "surroundings": (lambda: (["(", "not"], ["+", "a", ")"]), errors.InvalidSurroundings,
+                     lambda value: isinstance(value, tuple) and len(value) == 2 and judges.text(value[0]) and judges.text(value[1])),
+    "look": (lambda: (PLUS[0], "*", True), errors.InvalidLook, lambda value: is_like(value, exchange.looks(HERE))),
+    "edit": (lambda: (1, 3, ["x", "'b"]), errors.InvalidEdit, lambda value: is_like(value, [(0, 0, [])])),
+    "workshop": (shop, errors.InvalidWorkshop, lambda value: isinstance(value, workshop.Workshop)),
+    "log": (log, errors.InvalidLog, lambda value: is_like(value, [[]])),
+    "script": (script, errors.InvalidScript, lambda value: is_like(value, [[]])),
+    "script text": (lambda: scripts.script_text(script()), errors.InvalidText, lambda value: is_like(value, [""])),
+    "edition text": (lambda: "4 _4 + _5\nhard", errors.InvalidText, lambda value: False),
+    "tree text": (lambda: papers.tree_text(tree()), errors.InvalidText, lambda value: is_like(value, ["a", "+", "1", "'a", "a b"])),
+    "any change": (lambda: ("put", PLUS), errors.InvalidChange, judges.change),
+    "change text": (lambda: "hard not", errors.InvalidText, lambda value: False),
+    "table": (lambda: [("wanted", ("bottom",)), ("had", None, ("form", PLUS[0]), "+")], errors.InvalidTable, lambda value: is_like(value, [[]])),
+    "table text": (lambda: "had  _ + _  bracket  --", errors.InvalidText, lambda value: is_like(value, [""])),
+    "editions of one stock": (lambda: [HERE, SAME], errors.InvalidEditions, lambda value: judges.editions(value) and len(value) == 1),
     "value": (lambda: None, None, None),
 }
 # Each function with the names of its parameters and the kinds of these.
@@ -134,6 +179,33 @@ FUNCTIONS = [
     (marks.least_marks, "edition:edition, tree:needy tree"), (marks.are_least_marks, "edition:edition, tree:needy tree, value:value"),
     (marks.apart, "edition:edition, tree:needy tree"), (marks.are_apart, "edition:edition, tree:needy tree, value:value"),
     (marks.kinds, "edition:edition, tree:needy tree, way:way"),
+    (leading.needed_for_all, "editions:editions here, tree:needy tree"), (leading.one_for_all, "editions:editions here, tree:needy tree"),
+    (leading.are_for_all, "editions:editions here, tree:needy tree, value:value"), (leading.apart_for_all, "editions:editions here, tree:needy tree"),
+    (leading.are_apart_for_all, "editions:editions here, tree:needy tree, value:value"), (leading.marks_in, "edition:edition, text:read text"),
+    (leading.led_price, "elder:edition, newer:newer here, text:read text"), (leading.led_over, "elder:edition, newer:newer here, text:read text"),
+    (leading.is_led_over, "elder:edition, newer:newer here, text:read text, value:value"), (leading.idle_number, "edition:edition, text:read text"),
+    (leading.idle_pairs, "edition:edition, text:read text"), (leading.are_idle_pairs, "edition:edition, text:read text, value:value"),
+    (ways.unheld, "elder:edition, newer:newer here, tree:needy tree"), (ways.are_held, "elder:edition, newer:newer here"),
+    (ways.unheld_way, "elder:edition, newer:newer here"), (ways.is_unheld_way, "elder:edition, newer:newer here, value:value"),
+    (ways.all_but, "elder:edition, tree:needy tree, way:any way"), (ways.is_bare, "elder:edition, newer:newer here, text:text"),
+    (ways.bare_parting, "elder:edition, newer:newer here"), (ways.is_bare_parting, "elder:edition, newer:newer here, value:value"),
+    (exchange.fits, "edition:edition, text:read text, surroundings:surroundings"), (exchange.looks, "edition:edition"),
+    (exchange.surroundings_of, "edition:edition, look:look"), (exchange.are_surroundings_of, "edition:edition, look:look, value:value"),
+    (exchange.passes, "edition:edition, text:read text, look:look"), (exchange.failed_looks, "edition:edition, text:read text"),
+    (exchange.are_exchangeable, "edition:edition, one:read text, other:other read text"),
+    (exchange.parting_surroundings, "edition:edition, one:read text, other:other read text"),
+    (exchange.are_parting_surroundings, "edition:edition, one:read text, other:other read text, value:value"),
+    (exchange.many_classes, "edition:edition"), (exchange.class_texts, "edition:edition"), (exchange.are_class_texts, "edition:edition, value:value"),
+    (workshop.edited, "text:text, edit:edit"), (workshop.met, "edition:edition, text:text, edit:edit"), (workshop.Workshop, "edition:edition"),
+    (workshop.replayed, "workshop:workshop, log:log"),
+    (scripts.script_text, "script:script"), (scripts.read_script, "text:script text"), (scripts.end_of, "edition:edition, script:script"),
+    (scripts.trimmed, "edition:edition, script:script"),
+    (papers.edition_text, "edition:edition"), (papers.read_edition, "text:edition text"), (papers.tree_text, "tree:tree"),
+    (papers.read_tree, "text:tree text"), (papers.change_text, "change:any change"), (papers.read_change, "text:change text"),
+    (papers.table_text, "table:table"), (papers.read_table, "text:table text"),
+    (agreeing.least_agreeing, "editions:editions of one stock"), (agreeing.greatest_agreeing, "editions:editions of one stock"),
+    (agreeing.is_agreeing, "editions:editions of one stock, value:value"), (agreeing.quarrel, "editions:editions of one stock"),
+    (agreeing.is_quarrel, "editions:editions of one stock, value:value"), (agreeing.quarrelling, "editions:editions of one stock"),
 ]
 ROWS = [(function, [pair.split(":") for pair in told.split(", ")]) for function, told in FUNCTIONS]
 

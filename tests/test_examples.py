@@ -1,6 +1,7 @@
 """The blocks of examples of the document, as they stand."""
 
 import ast
+import pathlib
 import unittest
 
 TOKENS = r'''
@@ -211,6 +212,113 @@ word = (("_", "-", "_"), [("name", "not"), a])
 # [[((0,), (0,))], ['word'], ["'not", '-', 'a'], True]
 '''
 
+LEADING = r'''
+from keptreadings.editions import Edition
+from keptreadings.leading import apart_for_all, are_for_all, idle_pairs, idle_number, led_over, led_price, marks_in, needed_for_all, one_for_all
+plus, times = ("_", "+", "_"), ("_", "*", "_")
+elder, newer = Edition([(plus, 4, (4, 5)), (times, 6, (6, 7))], []), Edition([(plus, 4, (4, 5)), (times, 4, (4, 5))], [])
+a, b, c = ("name", "a"), ("name", "b"), ("name", "c")
+right, left = (plus, [a, (times, [b, c])]), (times, [(plus, [a, b]), c])
+[needed_for_all([elder], right), one_for_all([elder, newer], right), one_for_all([newer], left), needed_for_all([elder, newer], left)]
+# [0, [(1,)], [], 1]
+[are_for_all([elder, newer], left, [(0,)]), are_for_all([elder, newer], left, [(), (0,)]), apart_for_all([elder, newer], right)]
+# [True, False, [((1,), (1,))]]
+text = ["a", "+", "b", "*", "c"]
+[led_price(elder, newer, text), led_over(elder, newer, text), led_price(newer, elder, text)]
+# [1, ['a', '+', '(', 'b', '*', 'c', ')'], 1]
+full = ["(", "a", "+", "(", "b", "*", "c", ")", ")"]
+[marks_in(newer, full), idle_number(elder, full), idle_pairs(elder, full), idle_pairs(newer, full), led_price(elder, newer, full)]
+# [((('_', '+', '_'), [('name', 'a'), (('_', '*', '_'), [('name', 'b'), ('name', 'c')])]), {(): 1, (1,): 1}, []), 2, [0, 3], [0], 0]
+'''
+
+WAYS = r'''
+from keptreadings.editions import Edition
+from keptreadings.ways import all_but, are_held, is_bare_parting, is_unheld_way, unheld
+plus, strong, weak = (("_", "+", "_"), 6, (6, 7)), (("_", "*", "_"), 7, (7, 8)), (("_", "*", "_"), 5, (5, 6))
+early, late = Edition([plus, strong], []), Edition([plus, weak], [])
+sums = (("_", "+", "_"), [("name", "a"), (("_", "*", "_"), [("name", "b"), ("name", "c")])])
+[are_held(early, early), are_held(early, late), unheld(early, late, sums)]
+# [True, False, [((1,), (1,))]]
+all_but(early, sums, ((1,), (1,)))
+# ['(', "'a", '+', "'b", '*', "'c", ')']
+[is_unheld_way(early, late, (sums, ((1,), (1,)))), is_bare_parting(early, late, ["x", "+", "x", "*", "x"])]
+# [True, True]
+'''
+
+EXCHANGE = r'''
+from keptreadings.editions import Edition
+from keptreadings.exchange import are_class_texts, are_exchangeable, failed_looks, fits, looks, many_classes, parting_surroundings, passes
+edition = Edition([(("_", "+", "_"), 5, (5, 9)), (("f", "_"), 9, (6,))], [])
+name, call, sum_of = ["x"], ["f", "x"], ["x", "+", "x"]
+[fits(edition, call, (["f"], ["+", "y"])), fits(edition, sum_of, (["f"], [])), fits(edition, sum_of, ([], ["+", "y"]))]
+# [True, False, True]
+looks(edition)[:4]
+# [((), '', False), ((), '+', True), (('(',), ')', False), (('(',), '+', True)]
+[len(looks(edition)), passes(edition, sum_of, (("f", "_"), "", False)), failed_looks(edition, sum_of) == looks(edition)[4:], failed_looks(edition, call)]
+# [10, False, True, []]
+[are_exchangeable(edition, name, call), parting_surroundings(edition, name, sum_of), many_classes(edition), are_class_texts(edition, [sum_of, call])]
+# [True, (['f'], []), 2, True]
+'''
+
+WORKSHOP = r'''
+from keptreadings.editions import Edition
+from keptreadings.workshop import Workshop, edited, met
+plus, times = (("_", "+", "_"), 5, (5, 6)), (("_", "*", "_"), 6, (6, 7))
+plain, text = Edition([plus, times], []), ["a", "+", "b", "*", "c"]
+[edited(text, (0, 2, ["d", "*"])), met(plain, text, (0, 1, ["x", "*", "y"])), met(plain, text, (0, 0, ["("]))]
+# [['d', '*', 'b', '*', 'c'], 1, None]
+shop = Workshop(plain)
+[shop.enter(text), shop.change_kept([("level", ("left", "*"), 4)]), shop.parted()]
+# [0, None, []]
+[shop.change([("level", ("tail", "*"), 4)]), shop.parted(), shop.due(0) == shop.reading(0)[1], shop.lead(0), shop.text(0)]
+# [None, [0], False, None, ['a', '+', '(', 'b', '*', 'c', ')']]
+[shop.parted(), shop.due(0) == shop.reading(0)[1], shop.undo(), shop.undo(), shop.parted(), len(shop.log())]
+# [[], True, None, None, [], 2]
+'''
+
+SCRIPTS = r'''
+from keptreadings.editions import Edition
+from keptreadings.scripts import end_of, play, read_script, script_text, trimmed
+from keptreadings.workshop import Workshop
+mild = Edition([(("_", "+", "_"), 5, (5, 6)), (("_", "*", "_"), 6, (6, 7))], [])
+day = [("enter", ["a", "+", "b", "*", "c"]), ("change", [("level", ("tail", "*"), 4)]), ("parted",), ("lead", 0), ("parted",), ("close", 5)]
+play(Workshop(mild), day)
+# [('entered', 0), ('done',), ('parted', [0]), ('done',), ('parted', []), ('refused', 'InvalidSpot')]
+[read_script(script_text(day)) == day, end_of(mild, day)[1], trimmed(mild, [("enter", ["a"]), ("parted",), ("undo",), ("redo",)])]
+# [True, {0: ['a', '+', '(', 'b', '*', 'c', ')']}, [('enter', ['a']), ('redo',)]]
+'''
+
+PAPERS = r'''
+from keptreadings.editions import Edition
+from keptreadings.papers import change_text, edition_text, read_change, table_text, tree_text
+plus, short = (("_", "+", "_"), 5, (5, 6)), (("if", "_", "then", "_"), 2, (0, 3))
+[edition_text(Edition([short, plus], ["if"])), tree_text((("_", "+", "_"), [("name", "x"), ("number", "3")]))]
+# ['5 _5 + _6\n2 if _0 then _3\nhard if', "_ + _\n  'x\n  3"]
+[change_text(("level", ("hole", ("if", "_", "then", "_")), 4)), read_change("put 9 [ _0 ]")]
+# ['level hole if _ then _ 4', ('put', (('[', '_', ']'), 9, (0,)))]
+table_text([("wanted", ("bottom",)), ("had", None, ("form", ("if", "_")), "then"), ("elder", ("_", "+", "_"), ("bracket",), "")])
+# 'wanted  bottom\nhad  --  form if _  then\nelder  _ + _  bracket  --'
+'''
+
+AGREEING = r'''
+from keptreadings.agreeing import greatest_agreeing, is_agreeing, is_quarrel, least_agreeing, quarrel, quarrelling
+from keptreadings.editions import Edition
+plus, times, less, power = ("_", "+", "_"), ("_", "*", "_"), ("_", "-", "_"), ("_", "^", "_")
+first = Edition([(plus, 5, (9, 9)), (times, 4, (9, 5)), (less, 4, (9, 9)), (power, 4, (9, 9))], [])
+second = Edition([(plus, 3, (9, 9)), (times, 4, (9, 9)), (less, 3, (9, 9)), (power, 3, (4, 9))], [])
+third = Edition([(plus, 4, (4, 9)), (times, 3, (9, 9)), (less, 4, (9, 5)), (power, 5, (9, 9))], [])
+least_agreeing([first, second]).forms()
+# [(('_', '*', '_'), 0, (0, 1)), (('_', '+', '_'), 1, (0, 0)), (('_', '-', '_'), 0, (0, 0)), (('_', '^', '_'), 0, (0, 0))]
+[least_agreeing([first, second, third]), quarrelling([first, second, third]), quarrel([second, third]), is_agreeing([first], second)]
+# [None, [[0, 1, 2]], None, False]
+ring = [(0, ("on", times, ("tail", "+"))), (2, ("off", less, ("tail", "+"))), (2, ("on", less, ("tail", "^"))), (1, ("off", times, ("tail", "^")))]
+[is_quarrel([first, second, third], ring), is_quarrel([first, second, third], ring[1:] + ring[:1]), is_quarrel([first, second, third], ring[1:])]
+# [True, True, False]
+one = Edition([(plus, 5, (5, 6))], [])
+[greatest_agreeing([one]).forms(), is_agreeing([one, one], Edition([(plus, 2, (1, 3))], []))]
+# [[(('_', '+', '_'), 8, (8, 9))], True]
+'''
+
 
 def checked(case, block):
     """Run a block; hold each expression against the comment behind it. How many there are."""
@@ -271,3 +379,33 @@ class ExamplesTest(unittest.TestCase):
 
     def test_section_15(self):
         self.assertEqual(checked(self, MARKS), 3)
+
+    def test_section_16(self):
+        self.assertEqual(checked(self, LEADING), 4)
+
+    def test_section_17(self):
+        self.assertEqual(checked(self, WAYS), 3)
+
+    def test_section_18(self):
+        self.assertEqual(checked(self, EXCHANGE), 4)
+
+    def test_section_19(self):
+        self.assertEqual(checked(self, WORKSHOP), 4)
+
+    def test_section_20(self):
+        self.assertEqual(checked(self, SCRIPTS), 2)
+
+    def test_section_21(self):
+        self.assertEqual(checked(self, PAPERS), 3)
+
+    def test_section_22(self):
+        self.assertEqual(checked(self, AGREEING), 4)
+
+    def test_all_blocks_as_they_stand(self):
+        # Where the document is at hand, these are its blocks, all of them.
+        told = pathlib.Path(__file__).resolve().parents[2] / "shared" / "DOC.md"
+        if told.exists():
+            parts = told.read_text(encoding="ascii").split("```\n")
+            here = [TOKENS, EDITIONS, READING, COMING, TREES, STACKS, KEPT, SHORTEST, ALIKE, ROOMS, ADDING, BLAME, MARKS,
+                    LEADING, WAYS, EXCHANGE, WORKSHOP, SCRIPTS, PAPERS, AGREEING]
+            self.assertEqual(parts[1::2], [block[1:] for block in here])
