@@ -99,7 +99,7 @@ def is_quarrel(editions, value):
     rules = rules_of([row for _, row in value])
     if not all([rule[1] == later[0] for rule, later in zip(rules, rules[1:])]):
         return False
-    steps = sum([step for _, _, step in rules])
+    steps = sum([rule[2] for rule in rules])
     return steps > GREATEST_LEVEL or (steps > 0 and rules[0][0] == rules[-1][1])
 
 

@@ -13,7 +13,10 @@ from keptreadings.reduced import takes
 from keptreadings.spelling import NUMBER, is_word
 from keptreadings.trees import is_leaf
 
-PLAIN = (LEAF_LEVEL, LEAF_LEVEL, False, ())
+
+def plain_face():
+    """The face of a number, and of whatever stands in brackets."""
+    return (LEAF_LEVEL, LEAF_LEVEL, False, ())
 
 
 def tokens_behind(grammar):
@@ -53,12 +56,12 @@ def face_of(grammar, marking):
     for path in reversed(list(layout.parts)):
         part = layout.parts[path]
         if path in marking.openings or path in marking.quotes or part[0] == "number":
-            faces[path] = PLAIN
+            faces[path] = plain_face()
         elif is_leaf(part):
             faces[path] = word_face(grammar, part[1])
         else:
             many = len(part[1])
-            left, right = [faces[path + (at,)] if many else PLAIN for at in (0, many - 1)]
+            left, right = [faces[path + (at,)] if many else plain_face() for at in (0, many - 1)]
             faces[path] = form_face(grammar, part[0], left, right)
     return faces[()]
 
@@ -80,7 +83,7 @@ def hides(grammar, place):
 
 def leaf_faces(grammar):
     """The faces of names and numbers, each with a shortest text that has it."""
-    found = {PLAIN: [NUMBER]}
+    found = {plain_face(): [NUMBER]}
     for word in [token for token in grammar.fixed() if is_word(token) and token not in grammar.hard_words]:
         found.setdefault(word_face(grammar, word), [word])
     return found
@@ -91,7 +94,7 @@ def ends_of(grammar, pattern, faces):
 
     Where no part stands at an end, the tokens there are the pattern's own, and told with the middle ones.
     """
-    lefts, rights = {PLAIN: []}, {PLAIN: []}
+    lefts, rights = {plain_face(): []}, {plain_face(): []}
     if is_tail(pattern):
         lefts = {}
         for face in [face for face in faces if fits_left(grammar, pattern, face)]:

@@ -29,10 +29,11 @@ def add_alike(runs):
             for token in runs.waiting:
                 add_deeds(runs, frame, value, token)
     for frame in runs.frames[1:]:
+        ahead = tokens_to(frame)
         for lower in runs.lower_frames(frame):
             for token in runs.waiting:
                 target = ("alike", lower, frame[1], token)
-                runs.routes.add(("down", frame, token), target, tokens_to(frame), ())
+                runs.routes.add(("down", frame, token), target, ahead, ())
 
 
 def add_deeds(runs, frame, value, token):

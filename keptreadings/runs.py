@@ -105,9 +105,10 @@ class Runs:
     def add_below(self, frame):
         """Go down from a frame to those on which it may stand, and lay down what opens it."""
         level = own_level(self.elder, frame[1])
+        ahead = tokens_to(frame)
         for lower in self.lower_frames(frame):
             for token in self.waiting:
-                self.routes.add(("below", frame, token), ("had", lower, level, token), tokens_to(frame), ())
+                self.routes.add(("below", frame, token), ("had", lower, level, token), ahead, ())
 
 
 def runs_without(grammar, barred):

@@ -10,15 +10,13 @@ MOST_SIGNS = 8
 GREATEST_LEVEL = 9
 
 
-def is_run(value, characters):
-    """Whether any object is a string of one to eight of these characters."""
-    if not isinstance(value, str) or not 1 <= len(value) <= MOST_SIGNS:
-        return False
-    return all([character in characters for character in value])
+def is_run(value):
+    """Whether any object is a string of one to eight characters, none of which is strange."""
+    return isinstance(value, str) and 1 <= len(value) <= MOST_SIGNS and value.isascii()
 
 
 def is_word(value):
-    return is_run(value, LETTERS)
+    return is_run(value) and value.isalpha() and value.islower()
 
 
 def are_words(value):
@@ -31,7 +29,7 @@ def is_sign(value):
 
 
 def is_number(value):
-    return is_run(value, FIGURES) and (value == "0" or value[0] != "0")
+    return is_run(value) and value.isdigit() and (value == "0" or value[0] != "0")
 
 
 def is_quoted(value):

@@ -162,24 +162,22 @@ class Workshop:
 
     def edit(self, spot, edit):
         """Put the edited text in the place of the one at a spot."""
-        text, _, _ = self.opened(spot)
+        text = self.opened(spot)[0]
         require_edit(text, edit)
         self.step(("edit", spot, edit), self.state().with_read_text(spot, with_edit(text, edit)))
 
     def text(self, spot):
         """The text at a spot."""
-        text, _, _ = self.opened(spot)
-        return list(text)
+        return list(self.opened(spot)[0])
 
     def due(self, spot):
         """The due tree of the text at a spot, None if it has none."""
-        _, _, due = self.opened(spot)
+        due = self.opened(spot)[2]
         return None if due is None else copied_tree(due)
 
     def reading(self, spot):
         """What the edition in use tells of the text at a spot."""
-        text, _, _ = self.opened(spot)
-        return read(self.edition(), text)
+        return read(self.edition(), self.opened(spot)[0])
 
     def is_parted(self, spot):
         due = self.due(spot)

@@ -214,6 +214,13 @@ def right_arguments(row):
     return [KINDS[kind][0]() for _, kind in row]
 
 
+def anew(value):
+    """A list with editions that are equal to its own, and are others."""
+    if isinstance(value, Edition):
+        return Edition(value.forms(), value.hard())
+    return [anew(item) for item in value] if isinstance(value, list) else value
+
+
 def as_told(value):
     """What a result is, an edition by its forms and words."""
     return snapshot(value)
@@ -315,11 +322,19 @@ class ArgumentsTest(unittest.TestCase):
                     calls.append((function, [elder, newer][:len(row)]))
                 if taken == ["edition", "newer", "value"]:
                     calls.append((function, [elder, newer, ["a"]]))
+                if taken == ["edition", "read text"]:
+                    calls.append((function, [elder, ["q"]]))
+                if taken == ["edition", "read text", "other read text"]:
+                    calls.append((function, [newer, ["q"], ["(", "1", ")"]]))
+                if taken[:2] == ["edition", "newer here"] and set(elder.grammar.patterns()) <= set(newer.grammar.patterns()):
+                    rest = {"read text": ["q"], "text": ["q"], "needy tree": ("name", "q"), "value": ["a"]}
+                    calls.append((function, [elder, newer] + [rest[kind] for kind in taken[2:]]))
+                if taken[:1] == ["editions of one stock"]:
+                    calls.append((function, [[elder, elder]] + [newer] * (len(row) - 1)))
         first = [as_told(function(*arguments)) for function, arguments in calls]
-        again = [as_told(function(*[Edition(one.forms(), one.hard()) if isinstance(one, Edition) else one for one in arguments]))
-                 for function, arguments in reversed(calls)]
+        again = [as_told(function(*anew(arguments))) for function, arguments in reversed(calls)]
         self.assertEqual(first, again[::-1])
-        self.assertGreater(len(calls), 250)
+        self.assertGreater(len(calls), 450)
 
     def test_lists_of_the_later_sections_are_read_as_they_are_then(self):
         row = ["x", "*", "y"]
@@ -365,6 +380,56 @@ class ArgumentsTest(unittest.TestCase):
         self.assertEqual(marks.need_ways(HERE, tree), [])
         with self.assertRaises(errors.InvalidMarks):
             marks.marked(tree, quotes)
+
+    def test_lists_of_the_last_sections_are_read_as_they_are_then(self):
+        row, part = [HERE], needy()
+        self.assertEqual(leading.needed_for_all(row, part), 2)
+        row.append(LESS)
+        with self.assertRaises(errors.UnknownForm):
+            leading.needed_for_all(row, part)
+        row[1] = Edition([PLUS, TIMES], [])
+        self.assertEqual(leading.one_for_all(row, part), [(0,), (0, 1)])
+        part[1][0] = ("name", "let")
+        self.assertEqual(leading.apart_for_all(row, part), [((0,), (0,))])
+        self.assertEqual(ways.unheld(Edition([PLUS, TIMES], []), HERE, part), [((0,), (0,))])
+        words = ["a", "+", "b"]
+        self.assertEqual(leading.marks_in(HERE, words)[1:], ({}, []))
+        words.insert(0, "(")
+        words.append(")")
+        self.assertEqual(leading.marks_in(HERE, words)[1:], ({(): 1}, []))
+        self.assertEqual(leading.idle_pairs(HERE, words), [0])
+        words += ["*", "c"]
+        self.assertEqual(leading.idle_pairs(HERE, words), [])
+        around = ([], ["*", "7"])
+        self.assertIs(exchange.fits(HERE, ["a", "+", "b"], around), False)
+        around[1][0] = "+"
+        self.assertIs(exchange.fits(HERE, ["a", "+", "b"], around), True)
+        rows = exchange.class_texts(HERE)
+        self.assertIs(exchange.are_class_texts(HERE, rows), True)
+        rows[0].append("$")
+        self.assertIs(exchange.are_class_texts(HERE, rows), False)
+        edit = (0, 1, ["x"])
+        self.assertEqual(workshop.edited(["a"], edit), ["x"])
+        edit[2].clear()
+        self.assertEqual(workshop.edited(["a"], edit), [])
+        orders = script()
+        self.assertEqual(len(scripts.script_text(orders).split("\n")), 11)
+        orders[1][1].clear()
+        self.assertEqual(len(scripts.script_text(orders).split("\n")), 9)
+        orders.append(("undo", 1))
+        with self.assertRaises(errors.InvalidScript):
+            scripts.script_text(orders)
+        table = [("wanted", ("bottom",))]
+        self.assertEqual(papers.table_text(table), "wanted  bottom")
+        table.append(("wanted", ("bracket",)))
+        self.assertEqual(papers.table_text(table), "wanted  bottom\nwanted  bracket")
+        stock = [HERE]
+        self.assertIs(agreeing.is_agreeing(stock, HERE), True)
+        stock.append(SAME)
+        self.assertIs(agreeing.is_agreeing(stock, HERE), False)
+        stock.append(LESS)
+        with self.assertRaises(errors.InvalidEditions):
+            agreeing.quarrel(stock)
 
     def test_a_list_is_read_as_it_is_then(self):
         row = ["a"]

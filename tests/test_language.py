@@ -13,7 +13,7 @@ BUILTINS = set((
 METHODS = set((
     "append clear copy count endswith extend find get index insert isalnum isalpha isdigit islower isspace isupper items join keys "
     "ljust lower lstrip partition pop remove replace reverse rfind rjust rpartition rsplit rstrip setdefault split splitlines "
-    "startswith strip update upper values zfill bit_length add discard"
+    "startswith strip update upper values zfill bit_length add discard isascii"
 ).split())
 WORDS = ("register mro elements open input law exit type eval exec id dir vars compile hash map next filter iter format round slice "
          "globals locals super typing enum dataclass overload contextmanager namedtuple _wall").split()
