@@ -4,7 +4,7 @@ from keptreadings.editions import require_edition
 from keptreadings.errors import InvalidLook, InvalidSurroundings
 from keptreadings.faces import all_faces, face_of, fails
 from keptreadings.needs import Layout
-from keptreadings.outlooks import is_surroundings, look_of, shortest_by_looks, size_of
+from keptreadings.outlooks import around_looks, is_surroundings, look_of, size_of
 from keptreadings.pairs import bare_positions, marking_in
 from keptreadings.reading import read
 from keptreadings.tokens import is_text
@@ -34,7 +34,7 @@ def fits(edition, text, surroundings):
 def looks(edition):
     """The ascending list of the looks that some surroundings have."""
     require_edition(edition)
-    return list(shortest_by_looks(edition.grammar))
+    return list(around_looks(edition.grammar))
 
 
 def require_look(known, look):
@@ -43,12 +43,16 @@ def require_look(known, look):
         raise InvalidLook(look)
 
 
+def copied_surroundings(surroundings):
+    return (list(surroundings[0]), list(surroundings[1]))
+
+
 def surroundings_of(edition, look):
     """Shortest surroundings that have a look."""
     require_edition(edition)
-    around = shortest_by_looks(edition.grammar)
+    around = around_looks(edition.grammar)
     require_look(around, look)
-    return around[look]
+    return copied_surroundings(around[look])
 
 
 def are_surroundings_of(edition, look, value):
@@ -60,13 +64,13 @@ def are_surroundings_of(edition, look, value):
 def passes(edition, text, look):
     """Whether a text fits surroundings that have a look, and so all of them."""
     marking = marking_in(edition, text)
-    require_look(shortest_by_looks(edition.grammar), look)
+    require_look(around_looks(edition.grammar), look)
     return not fails(edition.grammar, face_of(edition.grammar, marking), look)
 
 
 def looks_failed(edition, marking):
     face = face_of(edition.grammar, marking)
-    return [look for look in shortest_by_looks(edition.grammar) if fails(edition.grammar, face, look)]
+    return [look for look in around_looks(edition.grammar) if fails(edition.grammar, face, look)]
 
 
 def failed_looks(edition, text):
@@ -91,8 +95,8 @@ def parting_surroundings(edition, one, other):
     parting = looks_that_part(edition, one, other)
     if not parting:
         return None
-    around = shortest_by_looks(edition.grammar)
-    return min([around[look] for look in parting], key=size_of)
+    around = around_looks(edition.grammar)
+    return copied_surroundings(min([around[look] for look in parting], key=size_of))
 
 
 def are_parting_surroundings(edition, one, other, value):

@@ -53,6 +53,13 @@ def shortest_by_looks(grammar):
     return {look: found[look] for look in sorted(list(found))}
 
 
+def around_looks(grammar):
+    """For each look, ascending, shortest surroundings that have it, not to be changed."""
+    if "looks" not in grammar.answers:
+        grammar.keep("looks", shortest_by_looks(grammar))
+    return grammar.answers["looks"]
+
+
 def look_of(edition, surroundings):
     """The look of surroundings, None if no text fits them."""
     ahead, behind = surroundings
