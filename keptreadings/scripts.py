@@ -14,6 +14,7 @@ CHANGE_WORDS = ("change", "change_kept")
 LONE_WORDS = ("parted", "undo", "redo")
 END = "end"
 INDENT = "  "
+TEN_FIGURES = 10000000000
 
 
 def is_command(value):
@@ -99,6 +100,15 @@ def block_lines(word, lines):
     return [word] + [INDENT + line for line in lines] + [END]
 
 
+def figures_of(count):
+    """The decimal digits of a count, also of one that is too long for Python to tell at once."""
+    figures = ""
+    while count >= TEN_FIGURES:
+        count, low = divmod(count, TEN_FIGURES)
+        figures = str(low).zfill(10) + figures
+    return str(count) + figures
+
+
 def command_lines(command):
     """The lines of a command."""
     word = command[0]
@@ -106,13 +116,13 @@ def command_lines(command):
         return block_lines(word, script_lines(command[1]))
     if word in CHANGE_WORDS:
         return block_lines(word, [change_text(change) for change in command[1]])
-    things = list(command)
     if word == "enter":
-        things = [word] + command[1]
+        return [" ".join([word] + command[1])]
+    counts, tokens = list(command[1:]), []
     if word == "edit":
         begin, end, tokens = command[2]
-        things = [word, command[1], begin, end] + tokens
-    return [" ".join([str(thing) for thing in things])]
+        counts = [command[1], begin, end]
+    return [" ".join([word] + [figures_of(count) for count in counts] + tokens)]
 
 
 def script_lines(script):
@@ -129,7 +139,10 @@ def count_of(figures):
     """The count that figures tell, None if they are none."""
     if figures == "" or not all([figure in FIGURES for figure in figures]):
         return None
-    return int(figures)
+    count = 0
+    for figure in figures:
+        count = count * 10 + FIGURES.index(figure)
+    return count
 
 
 def command_of(line):

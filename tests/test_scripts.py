@@ -203,6 +203,15 @@ class TextTest(unittest.TestCase):
             self.assertEqual(script_text(script), text)
             self.assertEqual(snapshot(read_script(text)), snapshot(script))
 
+    def test_counts_of_any_size(self):
+        for count in (0, 9, 10, 10 ** 10 - 1, 10 ** 10, 10 ** 10 + 1, 10 ** 20 + 5, 10 ** 29 - 1, 123456789012345678901234567890):
+            self.assertEqual(script_text([("edit", count, (count, 0, ["7"]))]), "edit {0} {0} 0 7".format(count))
+            self.assertEqual(read_script("lead {}".format(count)), [("lead", count)])
+        # Far beyond the limit nothing is an error for this alone.
+        huge = 10 ** 5000 + 7
+        text = script_text([("close", huge)])
+        self.assertEqual([len(text), text[:8], text[-3:], read_script(text) == [("close", huge)]], [5007, "close 10", "007", True])
+
     def test_each_is_read_back(self):
         source = random.Random(222)
         for edition in random_editions(223, 25, 4, 9) + [HERE] * 10:
